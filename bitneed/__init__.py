@@ -1,0 +1,1 @@
+"""Bitneed: how wide each word of a program can be."""

@@ -1,0 +1,43 @@
+"""Whole numbers and names, and the words of a text."""
+
+LONGEST_NAME = 8
+MOST_FIGURES = 4
+
+
+def is_whole(thing, least, most):
+    """Whether anything is a whole number from least to most."""
+    # Asked for exactly, so that True and False are none, and that nothing which
+    # is handed in is ever asked to compare itself.
+    return type(thing) is int and least <= thing <= most
+
+
+def is_name(thing):
+    """Whether anything is a NAME."""
+    if type(thing) is not str or not 1 <= len(thing) <= LONGEST_NAME:
+        return False
+    return all("a" <= sign <= "z" for sign in thing)
+
+
+def _are_figures(signs):
+    # Not isdigit: that holds of figures of other scripts, too.
+    return all("0" <= sign <= "9" for sign in signs)
+
+
+def number_in(word):
+    """The whole number that a text writes, None where it writes none."""
+    figures = word.removeprefix("-")
+    if not 1 <= len(figures) <= MOST_FIGURES or not _are_figures(figures):
+        return None
+    if figures[0] == "0" and word != "0":
+        return None
+    return int(word)
+
+
+def _words_of(line):
+    # Split at blanks alone: split() would part words at other signs, too.
+    return [word for word in line.split(" ") if word]
+
+
+def rows_of(text):
+    """The rows of a text, each a list of its words."""
+    return [_words_of(line) for line in text.split("\n")]

@@ -1,0 +1,122 @@
+"""What is told is the asker's own, and asked again the same is told."""
+
+import copy
+import unittest
+
+from bitneed.errors import BadPlace, BadProgram, BitError, Unsound
+from bitneed.forms import (first_wrong, is_program, names_at, need_program, places_of, put_at,
+                           set_places, uses)
+from bitneed.words import is_name, is_whole, number_in, rows_of
+from tests.kit import SAMPLE, SAMPLE_NAMES, TELL_A, as_lists
+
+UNSOUND = (8, ("a",), (TELL_A, ("tell", "z")))
+
+ASKED = [
+    (is_whole, 3, 0, 5), (is_name, "abc"), (number_in, "-12"), (rows_of, " a b\n\nc"),
+    (is_program, SAMPLE), (is_program, [SAMPLE]), (first_wrong, SAMPLE), (first_wrong, UNSOUND),
+    (first_wrong, ()), (need_program, SAMPLE), (need_program, UNSOUND), (need_program, ()),
+    (uses, SAMPLE[2][4]), (uses, SAMPLE[2][3]), (places_of, SAMPLE), (places_of, UNSOUND),
+    (set_places, SAMPLE), (set_places, None), (names_at, SAMPLE, 6), (names_at, SAMPLE, 19),
+    (names_at, SAMPLE, True), (put_at, SAMPLE, 6, (TELL_A,)), (put_at, SAMPLE, 8, ()),
+    (put_at, SAMPLE, "0", ()), (put_at, UNSOUND, 0, ()),
+]
+
+
+def told_of(asked):
+    """What is told, or what is refused and how."""
+    try:
+        return asked[0](*asked[1:])
+    except BitError as error:
+        return (type(error), sorted(vars(error).items()))
+
+
+def spoil(told):
+    """Changes a list, and the lists in it, in all ways."""
+    if isinstance(told, list):
+        for part in told:
+            spoil(part)
+        told.append("more")
+        told.reverse()
+        told[0] = None
+        told.extend([None] * 30)
+
+
+class AskedAgain(unittest.TestCase):
+    def test_the_same_is_told(self):
+        first = [told_of(asked) for asked in ASKED]
+        self.assertEqual([told_of(asked) for asked in reversed(ASKED)], first[::-1])
+
+    def test_whatever_the_asker_does_to_it(self):
+        kept = [copy.deepcopy(told_of(asked)) for asked in ASKED]
+        for asked in ASKED * 2:
+            spoil(told_of(asked))
+        self.assertEqual([told_of(asked) for asked in ASKED], kept)
+
+    def test_lists_are_made_anew(self):
+        for asked in ASKED:
+            told = told_of(asked)
+            if isinstance(told, list):
+                self.assertIsNot(told_of(asked), told)
+
+    def test_what_one_asker_does_is_not_told_another(self):
+        for asked in ([places_of, SAMPLE], [set_places, SAMPLE], [names_at, SAMPLE, 0],
+                      [uses, TELL_A], [rows_of, "a b\nc"]):
+            mine = told_of(asked)
+            other = told_of(asked)
+            spoil(mine)
+            self.assertEqual(other, told_of(asked))
+
+    def test_names_at_two_places_are_two_lists(self):
+        one, other = names_at(SAMPLE, 2), names_at(SAMPLE, 3)
+        self.assertEqual(one, other)
+        spoil(one)
+        self.assertEqual(other, SAMPLE_NAMES[3].split())
+
+    def test_places_told_do_not_change_the_program(self):
+        kept = copy.deepcopy(SAMPLE)
+        spoil(places_of(SAMPLE))
+        spoil(names_at(SAMPLE, 0))
+        self.assertEqual(SAMPLE, kept)
+        self.assertIsNone(first_wrong(SAMPLE))
+
+
+class HandedIn(unittest.TestCase):
+    def test_a_program_stays_as_it_was(self):
+        kept = repr(SAMPLE)
+        for asked in ASKED:
+            told_of(asked)
+        for place in range(19):
+            put_at(SAMPLE, place, (TELL_A,))
+        self.assertEqual(repr(SAMPLE), kept)
+
+    def test_lists_and_dicts_stay_as_they_were(self):
+        for made in (lambda: as_lists(SAMPLE), lambda: {"a": [1]}, lambda: [8, ["a"], []],
+                     lambda: (8, ["a", "b"], ()), lambda: (8, (), [[]])):
+            thing = made()
+            self.assertIs(is_program(thing), False)
+            for asked in (first_wrong, need_program, places_of, set_places):
+                with self.assertRaises(BadProgram):
+                    asked(thing)
+            self.assertEqual(thing, made())
+            with self.assertRaises(BadPlace):
+                names_at(SAMPLE, thing)
+            self.assertEqual(thing, made())
+
+    def test_a_list_becomes_a_program_only_where_it_is_made_one(self):
+        inputs = ["a"]
+        self.assertIs(is_program((8, inputs, (TELL_A,))), False)
+        program = (8, tuple(inputs), (TELL_A,))
+        self.assertIsNone(first_wrong(program))
+        inputs.append("a")
+        self.assertIsNone(first_wrong(program))
+
+    def test_a_refusal_changes_nothing(self):
+        before = names_at(SAMPLE, 18)
+        for asked in ((names_at, SAMPLE, 19), (put_at, SAMPLE, -1, ()), (places_of, UNSOUND)):
+            with self.assertRaises((BadPlace, Unsound)):
+                asked[0](*asked[1:])
+        self.assertEqual(names_at(SAMPLE, 18), before)
+
+
+if __name__ == "__main__":
+    unittest.main()
