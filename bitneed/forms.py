@@ -131,9 +131,12 @@ def uses(row):
     """The NAMES that a ROW uses itself, as they stand."""
     if row[0] == "round":
         return []
-    if row[0] == "set":
-        return [part for part in row[2][1:] if type(part) is str]
-    return [row[1]]
+    return names_in(row[2]) if row[0] == "set" else [row[1]]
+
+
+def names_in(expr):
+    """The NAMES of an EXPR, as they stand."""
+    return [part for part in expr[1:] if type(part) is str]
 
 
 def _names_by_places(program):

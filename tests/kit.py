@@ -47,6 +47,64 @@ SAMPLE_NAMES = [
     "a b u w x y z",
 ]
 
+SAMPLE_TEXT = """wide 8
+in a b
+set x number 1
+set y copy x
+if a
+set z add a b
+round 0
+set v less z a
+if v
+else
+tell v
+end
+end
+else
+set z and a a
+set z or z x
+end
+round 3
+set w unlike z y
+set w same w w
+round 1
+set u below w z
+set u up u 0
+end
+set u down u 1
+end
+set x pick w u x
+tell x"""
+
+# Each of the words an EXPR can begin with.
+ALL_EXPRS = [
+    ("number", 5), ("copy", "y"), ("add", "y", "z"), ("less", "y", "z"), ("and", "y", "z"),
+    ("or", "y", "z"), ("unlike", "y", "z"), ("same", "y", "z"), ("below", "y", "z"),
+    ("up", "y", 3), ("down", "y", 11), ("pick", "c", "y", "z"),
+]
+
+# Its names are words of programs.
+WORD_NAMED = (8, ("wide", "in", "set", "number"), (
+    ("set", "set", ("add", "add", "in")),
+    ("if", "if", (("tell", "else"),), (("tell", "end"),)),
+    ("round", 2, (("tell", "round"), ("set", "tell", ("number", 0)))),
+    ("set", "pick", ("pick", "pick", "copy", "up")),
+))
+
+WORD_NAMED_TEXT = """wide 8
+in wide in set number
+set set add add in
+if if
+tell else
+else
+tell end
+end
+round 2
+tell round
+set tell number 0
+end
+set pick pick pick copy up"""
+
 
 class Hostile:
     """Fails whoever compares, measures, goes through or hashes it."""
@@ -94,6 +152,53 @@ def one_in_another(kinds, innermost):
     for kind in reversed(kinds):
         rows = (("if", "a", rows, ()),) if kind == "if" else (("round", 1, rows),)
     return rows
+
+
+def words_with(wide, facts):
+    """All words with these FACTS."""
+    zeros, ones = facts
+    return [word for word in range(2 ** wide) if not word & zeros and word & ones == ones]
+
+
+def all_facts(wide):
+    return [(zeros, ones) for zeros in range(2 ** wide) for ones in range(2 ** wide)
+            if not zeros & ones]
+
+
+def facts_of_words(wide, words):
+    """The bits that are the same in all of these."""
+    zeros = ones = 2 ** wide - 1
+    for word in words:
+        zeros &= ~word
+        ones &= word
+    return (zeros, ones)
+
+
+def worth_of(wide, kind, parts):
+    """What an EXPR comes to, by words where it has names: bit by bit, as a text of bits.
+
+    Written another way than the package does it, so that both don't err alike.
+    """
+    one = parts[0]
+    other = parts[1] if len(parts) > 1 else None
+    if kind in ("number", "copy"):
+        return one
+    if kind == "pick":
+        return parts[2] if one == 0 else other
+    if kind in ("same", "below"):
+        return int(one == other if kind == "same" else one < other)
+    if kind == "add":
+        return (one + other) % 2 ** wide
+    if kind == "less":
+        return (one - other) % 2 ** wide
+    bits = format(one, f"0{wide}b")
+    if kind == "up":
+        return int((bits + "0" * other)[-wide:], 2)
+    if kind == "down":
+        return int(("0" * other + bits)[:wide], 2)
+    wanted = {"and": ["11"], "or": ["01", "10", "11"], "unlike": ["01", "10"]}[kind]
+    pairs = zip(bits, format(other, f"0{wide}b"))
+    return int("".join("1" if a + b in wanted else "0" for a, b in pairs), 2)
 
 
 def part_at(thing, path):

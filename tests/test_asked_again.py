@@ -3,13 +3,19 @@
 import copy
 import unittest
 
+from bitneed.bits import (common_facts, expr_facts, first_facts, greatest_word, is_facts,
+                          least_word, ways_of)
 from bitneed.errors import BadPlace, BadProgram, BitError, Unsound
 from bitneed.forms import (first_wrong, is_program, names_at, need_program, places_of, put_at,
                            set_places, uses)
+from bitneed.reading import program_in
+from bitneed.showing import expr_text, program_text
 from bitneed.words import is_name, is_whole, number_in, rows_of
-from tests.kit import SAMPLE, SAMPLE_NAMES, TELL_A, as_lists
+from tests.kit import ALL_EXPRS, SAMPLE, SAMPLE_NAMES, SAMPLE_TEXT, TELL_A, as_lists
 
 UNSOUND = (8, ("a",), (TELL_A, ("tell", "z")))
+
+FACTS = {"c": (0, 0), "y": (5, 2), "z": (8, 0)}
 
 ASKED = [
     (is_whole, 3, 0, 5), (is_name, "abc"), (number_in, "-12"), (rows_of, " a b\n\nc"),
@@ -19,7 +25,12 @@ ASKED = [
     (set_places, SAMPLE), (set_places, None), (names_at, SAMPLE, 6), (names_at, SAMPLE, 19),
     (names_at, SAMPLE, True), (put_at, SAMPLE, 6, (TELL_A,)), (put_at, SAMPLE, 8, ()),
     (put_at, SAMPLE, "0", ()), (put_at, UNSOUND, 0, ()),
-]
+    (program_text, SAMPLE), (program_in, SAMPLE_TEXT), (program_in, "wide 8\nin\ntell A"),
+    (program_in, SAMPLE), (is_facts, 4, (1, 2)), (is_facts, 4, [1, 2]), (least_word, (1, 2)),
+    (greatest_word, 4, (1, 2)), (common_facts, (1, 2), (3, 0)), (ways_of, 4, (1, 2)),
+    (first_facts, 4, (7, 0)), (expr_facts, 4, ("copy", "x"), FACTS),
+    (expr_facts, 4, ("copy", "y"), [FACTS]),
+] + [(expr_text, expr) for expr in ALL_EXPRS] + [(expr_facts, 4, expr, FACTS) for expr in ALL_EXPRS]
 
 
 def told_of(asked):
@@ -88,6 +99,12 @@ class HandedIn(unittest.TestCase):
         for place in range(19):
             put_at(SAMPLE, place, (TELL_A,))
         self.assertEqual(repr(SAMPLE), kept)
+
+    def test_facts_stay_as_they_were(self):
+        kept = repr(FACTS)
+        for asked in ASKED:
+            told_of(asked)
+        self.assertEqual(repr(FACTS), kept)
 
     def test_lists_and_dicts_stay_as_they_were(self):
         for made in (lambda: as_lists(SAMPLE), lambda: {"a": [1]}, lambda: [8, ["a"], []],

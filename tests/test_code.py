@@ -6,7 +6,7 @@ import pathlib
 import unittest
 
 import bitneed
-from bitneed import errors, forms, words
+from bitneed import bits, errors, forms, reading, showing, words
 
 FOLDER = pathlib.Path(bitneed.__file__).parent
 
@@ -16,6 +16,12 @@ INTERFACE = {
     forms: {"is_program": ["thing"], "first_wrong": ["program"], "need_program": ["thing"],
             "uses": ["row"], "places_of": ["program"], "set_places": ["program"],
             "names_at": ["program", "place"], "put_at": ["program", "place", "other"]},
+    showing: {"expr_text": ["expr"], "program_text": ["program"]},
+    reading: {"program_in": ["text"]},
+    bits: {"is_facts": ["wide", "thing"], "least_word": ["facts"],
+           "greatest_word": ["wide", "facts"], "common_facts": ["one", "other"],
+           "ways_of": ["wide", "facts"], "first_facts": ["wide", "facts"],
+           "expr_facts": ["wide", "expr", "facts"]},
 }
 
 REFUSALS = ["BitError", "BadText", "Unsound", "BadProgram", "BadInput", "BadPlace", "BadFacts",
