@@ -168,6 +168,20 @@ def _names_behind(row, names, ahead):
     return names
 
 
+def names_set(rows):
+    """A dict of the NAMES that are there at the end of rows, though none is ahead of them."""
+    found = {}
+    for row in rows:
+        if row[0] == "set":
+            found[row[1]] = True
+        elif row[0] == "if":
+            second = names_set(row[3])
+            found.update({name: True for name in names_set(row[2]) if name in second})
+        elif row[0] == "round" and row[1] > 0:
+            found.update(names_set(row[2]))
+    return found
+
+
 def _steps_of_rows(rows):
     return sum([_steps_of_row(row) for row in rows])
 

@@ -1,5 +1,6 @@
 """What several tests share: programs, odd things, and programs made by chance."""
 
+import itertools
 import random
 
 SET_A = ("set", "a", ("number", 1))
@@ -142,6 +143,14 @@ ODD = [
 NOT_PLACES = ODD + [-10 ** 30, (), "0", (0,), [0]]
 
 
+def number(name, n):
+    return ("set", name, ("number", n))
+
+
+def copy(name, other):
+    return ("set", name, ("copy", other))
+
+
 def rows_of_many(many):
     return (SET_A,) * many
 
@@ -199,6 +208,73 @@ def worth_of(wide, kind, parts):
     wanted = {"and": ["11"], "or": ["01", "10", "11"], "unlike": ["01", "10"]}[kind]
     pairs = zip(bits, format(other, f"0{wide}b"))
     return int("".join("1" if a + b in wanted else "0" for a, b in pairs), 2)
+
+
+class Walk:
+    """A run told by an interpreter of its own: what stands at each place each time it is come to.
+
+    Each arrival is (place, what is told, set or asked there, all words ahead of the row). A turn
+    says of a set row's place and word what is set instead.
+    """
+
+    def __init__(self, program, words, turn=None):
+        self.wide = program[0]
+        self.words = dict(zip(program[1], words))
+        self.turn = turn
+        self.arrivals = []
+        self.tellings = []
+        self.lost = set()
+        self.rows(program[2], 0)
+
+    def rows(self, rows, place):
+        for row in rows:
+            self.row(row, place)
+            place += size_of(row)
+
+    def row(self, row, place):
+        ahead = dict(self.words)
+        if row[0] == "round":
+            self.arrivals.append((place, None, ahead))
+            for _ in range(row[1]):
+                self.rows(row[2], place + 1)
+        elif row[0] == "if":
+            self.arrivals.append((place, ahead[row[1]], ahead))
+            if ahead[row[1]]:
+                self.rows(row[2], place + 1)
+            else:
+                self.rows(row[3], place + 1 + sum(map(size_of, row[2])))
+        elif row[0] == "tell":
+            self.arrivals.append((place, ahead[row[1]], ahead))
+            self.tellings.append(ahead[row[1]])
+        else:
+            self.set(row, place, ahead)
+
+    def set(self, row, place, ahead):
+        kind, *parts = row[2]
+        parts = [ahead[part] if isinstance(part, str) else part for part in parts]
+        word = worth_of(self.wide, kind, parts)
+        if ((kind == "add" and sum(parts) != word) or (kind == "less" and parts[0] < parts[1])
+                or (kind == "up" and word != parts[0] * 2 ** parts[1])):
+            self.lost.add(place)
+        if self.turn:
+            word = self.turn(place, word)
+        self.words[row[1]] = word
+        self.arrivals.append((place, word, ahead))
+
+    def steps(self):
+        return tuple((place, word) for place, word, _ in self.arrivals if word is not None)
+
+
+def size_of(row):
+    """How many places a row takes, with those within it."""
+    if row[0] == "if":
+        return 1 + sum(map(size_of, row[2] + row[3]))
+    return 1 + (sum(map(size_of, row[2])) if row[0] == "round" else 0)
+
+
+def all_words(program):
+    """All that can be put in."""
+    return list(itertools.product(range(2 ** program[0]), repeat=len(program[1])))
 
 
 def part_at(thing, path):
@@ -263,3 +339,68 @@ class Maker:
         self.left = 12
         inputs = tuple(self.chance.sample("abcd", self.chance.choice([0, 1, 2, 3, 4])))
         return (4, inputs, self.rows(1))
+
+
+class SoundMaker:
+    """Makes sound programs by chance, always the same ones of one seed."""
+
+    NAMES = "abcdef"
+
+    def __init__(self, seed, wide, inputs):
+        self.chance = random.Random(seed)
+        self.wide = wide
+        self.inputs = tuple(self.chance.sample(self.NAMES, inputs))
+        self.left = self.chance.choice([3, 6, 10, 14])
+
+    def expr(self, there):
+        names = [self.chance.choice(there) for _ in range(3)] if there else []
+        kind = self.chance.choice(ALL_EXPRS)[0] if there else "number"
+        if kind == "number":
+            return (kind, self.chance.choice([0, 1, self.chance.randrange(2 ** self.wide)])
+                    % 2 ** self.wide)
+        if kind in ("up", "down"):
+            return (kind, names[0], self.chance.choice([0, 1, 1, self.wide - 1, self.wide, 11]))
+        return (kind,) + tuple(names[:{"copy": 1, "pick": 3}.get(kind, 2)])
+
+    def row(self, there, deep, rounds):
+        """A row, and the names that are there behind it."""
+        self.left -= 1
+        kind = self.chance.choice(["set"] * 4 + ["tell", "if", "if", "round"])
+        if kind == "round" and rounds < 3 and deep < 5:
+            n = self.chance.choice([0, 1, 2, 3])
+            rows, end = self.rows(there, deep + 1, rounds + 1)
+            return ("round", n, rows), end if n else there
+        if kind == "if" and there and deep < 5:
+            first, one = self.rows(there, deep + 1, rounds)
+            second, other = self.rows(there, deep + 1, rounds)
+            return (("if", self.chance.choice(there), first, second),
+                    [name for name in one if name in other])
+        if kind == "tell" and there:
+            return ("tell", self.chance.choice(there)), there
+        name = self.chance.choice(self.NAMES)
+        row = ("set", name, self.expr(there))
+        return row, there if name in there else there + [name]
+
+    def rows(self, there, deep, rounds):
+        rows = []
+        for _ in range(self.chance.choice([0, 1, 2, 3]) if deep > 1 else self.left):
+            if self.left > 0:
+                row, there = self.row(there, deep, rounds)
+                rows.append(row)
+        return tuple(rows), there
+
+    def program(self):
+        rows, there = self.rows(list(self.inputs), 1, 0)
+        told = (("tell", self.chance.choice(there)),) if there else ()
+        return (self.wide, self.inputs, rows + told)
+
+
+def sound_programs(many, most_bits=6):
+    """Sound programs by chance, of which all that can be put in is soon gone through."""
+    chance = random.Random(many)
+    made = []
+    for seed in range(many):
+        wide = chance.choice([1, 2, 2, 3, 3, 4])
+        inputs = min(chance.choice([0, 1, 1, 2, 2, 3, 4]), most_bits // wide)
+        made.append(SoundMaker(seed, wide, inputs).program())
+    return made

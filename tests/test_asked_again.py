@@ -8,7 +8,11 @@ from bitneed.bits import (common_facts, expr_facts, first_facts, greatest_word, 
 from bitneed.errors import BadPlace, BadProgram, BitError, Unsound
 from bitneed.forms import (first_wrong, is_program, names_at, need_program, places_of, put_at,
                            set_places, uses)
+from bitneed.fronts import facts_ahead
+from bitneed.losing import loses, lossless
+from bitneed.needs import is_idle, needs, needs_of
 from bitneed.reading import program_in
+from bitneed.running import narrowed, run, steps
 from bitneed.showing import expr_text, program_text
 from bitneed.words import is_name, is_whole, number_in, rows_of
 from tests.kit import ALL_EXPRS, SAMPLE, SAMPLE_NAMES, SAMPLE_TEXT, TELL_A, as_lists
@@ -30,6 +34,10 @@ ASKED = [
     (greatest_word, 4, (1, 2)), (common_facts, (1, 2), (3, 0)), (ways_of, 4, (1, 2)),
     (first_facts, 4, (7, 0)), (expr_facts, 4, ("copy", "x"), FACTS),
     (expr_facts, 4, ("copy", "y"), [FACTS]),
+    (facts_ahead, SAMPLE), (facts_ahead, UNSOUND), (run, SAMPLE, (1, 2)), (run, SAMPLE, (1, 256)),
+    (steps, SAMPLE, (0, 255)), (narrowed, SAMPLE, (4,) * 12, (1, 2)), (narrowed, SAMPLE, (), ()),
+    (loses, SAMPLE), (lossless, SAMPLE), (needs, SAMPLE), (needs, ()), (needs_of, SAMPLE),
+    (is_idle, SAMPLE, 2), (is_idle, SAMPLE, 19),
 ] + [(expr_text, expr) for expr in ALL_EXPRS] + [(expr_facts, 4, expr, FACTS) for expr in ALL_EXPRS]
 
 

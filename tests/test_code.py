@@ -6,7 +6,8 @@ import pathlib
 import unittest
 
 import bitneed
-from bitneed import bits, errors, forms, reading, showing, words
+from bitneed import (bits, errors, forms, fronts, losing, needs, reading, running, showing,
+                     words)
 
 FOLDER = pathlib.Path(bitneed.__file__).parent
 
@@ -22,6 +23,11 @@ INTERFACE = {
            "greatest_word": ["wide", "facts"], "common_facts": ["one", "other"],
            "ways_of": ["wide", "facts"], "first_facts": ["wide", "facts"],
            "expr_facts": ["wide", "expr", "facts"]},
+    fronts: {"facts_ahead": ["program"]},
+    running: {"run": ["program", "words"], "steps": ["program", "words"],
+              "narrowed": ["program", "widths", "words"]},
+    losing: {"loses": ["program"], "lossless": ["program"]},
+    needs: {"needs": ["program"], "needs_of": ["program"], "is_idle": ["program", "place"]},
 }
 
 REFUSALS = ["BitError", "BadText", "Unsound", "BadProgram", "BadInput", "BadPlace", "BadFacts",

@@ -6,9 +6,14 @@ import unittest
 
 from bitneed.bits import expr_facts
 from bitneed.errors import BadText
+from bitneed.forms import first_wrong, places_of, set_places
+from bitneed.fronts import facts_ahead
+from bitneed.losing import loses, lossless
+from bitneed.needs import is_idle, needs, needs_of
 from bitneed.reading import program_in
+from bitneed.running import narrowed, run, steps
 from bitneed.showing import program_text
-from tests.kit import ALL_EXPRS, one_in_another
+from tests.kit import ALL_EXPRS, copy, number, one_in_another
 
 LONGEST = 12000
 
@@ -83,6 +88,97 @@ class LongFacts(LongTest):
                     expr_facts(12, expr, facts)
 
         self.within(2, ask_all)
+
+
+def names(many):
+    """Names that rise: aa, ab, .."""
+    return [chr(97 + at // 26) + chr(97 + at % 26) for at in range(many)]
+
+
+def of_many_names():
+    """Each of fifty-five names is set by those ahead of it, and told of a few."""
+    there = names(58)
+    rows = [("set", there[at], ("add", there[at - 1], there[at - 2])) for at in range(3, 58)]
+    return (12, tuple(there[:3]), tuple(rows) + tuple(("tell", name) for name in there[:5]))
+
+
+def of_most_steps(more=0):
+    """Three rounds within two ifs, 2,000 steps and more."""
+    add = ("set", "a", ("add", "a", "b"))
+    inner = ("round", 12, (("round", 1, (add,) * 12),))
+    way = (("round", 12, (inner,) + (add,) * 8),)
+    tells = (("tell", "a"),) * (17 + more)
+    return (12, ("a", "b"), (("if", "b", (("if", "b", way, ()),), ()),) + tells)
+
+
+def of_copies():
+    """Within three rounds a word comes on by one name each time they are gone through."""
+    there = names(28)
+    rows = tuple(number(name, 0) for name in there)
+    moves = tuple(copy(there[at], there[at - 1]) for at in reversed(range(1, 28)))
+    within = one_in_another(["round"] * 3, moves + (number(there[0], 4095),))
+    return (12, (), rows + within + (("tell", there[-1]),))
+
+
+def counter(there, within):
+    """A round by which a bit more of the names is open each time, the names one after another."""
+    rows = list(within)
+    for at in reversed(range(1, len(there))):
+        rows.append(("set", "t", ("down", there[at - 1], 11)))
+        rows.append(("set", there[at], ("add", there[at], "t")))
+    return ("round", 1, tuple(rows) + (("set", there[0], ("add", there[0], "one")),))
+
+
+def of_counters():
+    """Three rounds within one another; what the inner ones count begins anew each time."""
+    there = names(12)
+    zeros = [number(name, 0) for name in there]
+    innermost = counter(there[9:], [])
+    inner = counter(there[5:9], zeros[9:] + [innermost])
+    rows = zeros + [number("t", 0), number("one", 1), counter(there[:5], zeros[5:9] + [inner])]
+    return (12, (), tuple(rows) + (("tell", there[4]),))
+
+
+def of_deep_ways():
+    """Six within one another, rounds and ifs, with words of eight letters."""
+    row = ("set", "abcdefgh", ("pick", "abcdefgh", "ijklmnop", "qrstuvwx"))
+    rows = one_in_another(["if", "round", "if", "round", "round"], (row,) * 55)
+    return (12, ("abcdefgh", "ijklmnop", "qrstuvwx", "a"), rows)
+
+
+class LongPrograms(LongTest):
+    PROGRAMS = [of_many_names(), of_most_steps(), of_copies(), of_counters(), of_deep_ways()]
+
+    def test_they_are_as_long_as_can_be(self):
+        self.assertEqual([first_wrong(program) for program in self.PROGRAMS], [None] * 5)
+        self.assertEqual(first_wrong(of_most_steps(1)), (-1, "long"))
+        self.assertEqual(len(places_of(of_many_names())), 60)
+        self.assertEqual(len(places_of(of_copies())), 60)
+        self.assertEqual(len(places_of(of_deep_ways())), 60)
+
+    def test_ten_times_each(self):
+        for program in self.PROGRAMS:
+            many = len(set_places(program))
+            words = (1,) * len(program[1])
+            for asked in ((facts_ahead,), (loses,), (lossless,), (needs,), (needs_of,),
+                          (is_idle, 0), (run, words), (steps, words),
+                          (narrowed, (11,) * many, words)):
+                self.within(4, self.ten_times, asked[0], program, *asked[1:])
+
+    def ten_times(self, asked, *parts):
+        first = asked(*parts)
+        for _ in range(9):
+            self.assertEqual(asked(*parts), first)
+
+    def test_answers(self):
+        there = names(28)
+        copied = facts_ahead(of_copies())
+        self.assertEqual(copied[28], tuple((name, 4095, 0) for name in there))
+        self.assertEqual(copied[31], tuple((name, 0, 0) for name in there))
+        counted = facts_ahead(of_counters())
+        self.assertEqual(counted[-1], tuple((name, 0, 0) for name in names(12)) + (
+            ("one", 4094, 1), ("t", 4094, 0)))
+        self.assertEqual(dict(needs_of(of_many_names())), {"aa": 4095, "ab": 4095, "ac": 4095})
 
 
 if __name__ == "__main__":
