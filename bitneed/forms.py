@@ -5,7 +5,7 @@ program of right form can still be unsound, by its names or by its steps.
 """
 
 from bitneed.errors import BadPlace, BadProgram, Unsound
-from bitneed.words import is_name, is_whole
+from bitneed.words import are_names, is_whole
 
 WIDEST = 12
 MOST_INPUTS = 4
@@ -17,7 +17,7 @@ MOST_SHIFT = 11
 MOST_STEPS = 2000
 
 # A table, so that one look tells right EXPRS from others: the kinds of the
-# parts that each has behind its first word.
+# parts that each has behind its first word. A number stands last alone.
 EXPR_PARTS = {
     "number": ("word",),
     "copy": ("name",),
@@ -39,92 +39,172 @@ def is_program(thing):
     if type(thing) is not tuple or len(thing) != 3:
         return False
     wide, inputs, rows = thing
-    return is_whole(wide, 1, WIDEST) and _are_inputs(inputs) and _are_rows(rows, wide)
-
-
-def _are_inputs(thing):
-    if type(thing) is not tuple or len(thing) > MOST_INPUTS:
+    if not is_whole(wide, 1, WIDEST) or type(inputs) is not tuple or len(inputs) > MOST_INPUTS:
         return False
-    return all(is_name(name) for name in thing)
+    form = _Form(wide, inputs)
+    return form.has_rows(rows, 1, 0) and are_names(form.names)
 
 
-def _are_rows(thing, wide):
-    waiting = [(thing, 1, 0)]
-    many = 0
-    while waiting:
-        rows, deep, rounds = waiting.pop()
+class _Form:
+    """A going through anything that stands for ROWS.
+
+    What stands where NAMES are wanted is only gathered: most of them stand there
+    again and again, so that they are looked at together, each once.
+    """
+
+    def __init__(self, wide, inputs):
+        self.most = (1 << wide) - 1
+        self.names = list(inputs)
+        self.many = 0
+
+    def has_rows(self, rows, deep, rounds):
+        """Whether these are ROWS that can stand so deep, within so many rounds."""
         if type(rows) is not tuple or (rows and deep > MOST_WITHIN):
             return False
         # Counted ahead of looking at them: one tuple may stand within others
         # many times over, so that all of it could hardly be gone through.
-        many += len(rows)
-        if many > MOST_ROWS:
+        self.many += len(rows)
+        if self.many > MOST_ROWS:
             return False
         for row in rows:
-            if not _is_row_alone(row, wide):
+            if type(row) is not tuple or len(row) < 2 or type(row[0]) is not str:
                 return False
-            rounds_within = rounds + 1 if row[0] == "round" else rounds
-            if rounds_within > MOST_ROUNDS_WITHIN:
+            if row[0] == "set":
+                right = len(row) == 3 and self.has_expr(row[2])
+            elif row[0] == "tell":
+                right = len(row) == 2
+            else:
+                right = self.has_within(row, deep, rounds)
+            if not right:
                 return False
-            for within in inner_rows(row):
-                waiting.append((within, deep + 1, rounds_within))
-    return True
+            if row[0] != "round":
+                self.names.append(row[1])
+        return True
 
+    def has_within(self, row, deep, rounds):
+        if row[0] == "if":
+            return (len(row) == 4 and self.has_rows(row[2], deep + 1, rounds)
+                    and self.has_rows(row[3], deep + 1, rounds))
+        if row[0] != "round" or len(row) != 3 or rounds == MOST_ROUNDS_WITHIN:
+            return False
+        return is_whole(row[1], 0, MOST_GOINGS) and self.has_rows(row[2], deep + 1, rounds + 1)
 
-def _is_row_alone(row, wide):
-    """Whether anything is a ROW, but for what stands as the ROWS within it."""
-    if type(row) is not tuple or not row or type(row[0]) is not str:
-        return False
-    if row[0] == "set":
-        return len(row) == 3 and is_name(row[1]) and _is_expr(row[2], wide)
-    if row[0] == "tell":
-        return len(row) == 2 and is_name(row[1])
-    if row[0] == "if":
-        return len(row) == 4 and is_name(row[1])
-    return row[0] == "round" and len(row) == 3 and is_whole(row[1], 0, MOST_GOINGS)
-
-
-def _is_expr(thing, wide):
-    if type(thing) is not tuple or not thing or type(thing[0]) is not str:
-        return False
-    if thing[0] not in EXPR_PARTS:
-        return False
-    kinds = EXPR_PARTS[thing[0]]
-    if len(thing) != len(kinds) + 1:
-        return False
-    return all([_is_part(part, kind, wide) for part, kind in zip(thing[1:], kinds)])
-
-
-def _is_part(thing, kind, wide):
-    if kind == "name":
-        return is_name(thing)
-    if kind == "word":
-        return is_whole(thing, 0, (1 << wide) - 1)
-    return is_whole(thing, 0, MOST_SHIFT)
+    def has_expr(self, expr):
+        if type(expr) is not tuple or not expr or type(expr[0]) is not str:
+            return False
+        kinds = EXPR_PARTS.get(expr[0], ())
+        if not kinds or len(expr) != len(kinds) + 1:
+            return False
+        if kinds[-1] == "name":
+            self.names.extend(expr[1:])
+            return True
+        self.names.extend(expr[1:-1])
+        return is_whole(expr[-1], 0, self.most if kinds[-1] == "word" else MOST_SHIFT)
 
 
 def first_wrong(program):
     """(PLACE, WHAT) of the first wrong place, None where nothing is wrong."""
     if not is_program(program):
         raise BadProgram("this is no program by its form")
-    inputs, rows = program[1], program[2]
-    if len(set(inputs)) < len(inputs):
-        return (-1, "name")
-    there = _names_by_places(program)
-    for place, row in enumerate(_rows_by_places(rows)):
-        if not all(name in there[place] for name in uses(row)):
-            return (place, "name")
-    if _steps_of_rows(rows) > MOST_STEPS:
-        return (-1, "long")
-    return None
+    return _Look(program, None).wrong
 
 
 def need_program(thing):
     """None; refuses what is no PROGRAM, then one that has a wrong place."""
-    wrong = first_wrong(thing)
-    if wrong is not None:
-        place, what = wrong
+    _looked_at(thing, None)
+
+
+def _looked_at(program, wanted):
+    """A look at a program, which is refused as need_program does."""
+    if not is_program(program):
+        raise BadProgram("this is no program by its form")
+    look = _Look(program, wanted)
+    if look.wrong is not None:
+        place, what = look.wrong
         raise Unsound(place, what)
+    return look
+
+
+class _Look:
+    """A look at a program of right form: its rows by places, and what is wrong first.
+
+    Of the place that is wanted it has the names that are there ahead.
+    """
+
+    def __init__(self, program, wanted):
+        self.rows = []
+        self.behind = []
+        self.wanted = wanted
+        self.names = []
+        self.wrong_place = None
+        there = {name: True for name in program[1]}
+        many = self.go_through(program[2], dict(there))
+        self.wrong = self.first_of_all(len(there) < len(program[1]), many > MOST_STEPS)
+
+    def first_of_all(self, are_alike, is_long):
+        if are_alike:
+            return (-1, "name")
+        if self.wrong_place is not None:
+            return (self.wrong_place, "name")
+        return (-1, "long") if is_long else None
+
+    def go_through(self, rows, there):
+        """The STEPS of rows; there takes in the names that they set."""
+        steps = len(rows)
+        for row in rows:
+            place = len(self.rows)
+            self.rows.append(row)
+            self.behind.append(place + 1)
+            if place == self.wanted:
+                self.names = sorted(there)
+            if row[0] == "set":
+                for part in row[2][1:]:
+                    if part not in there and type(part) is str:
+                        self.note_wrong(place)
+                there[row[1]] = True
+                continue
+            if row[0] != "round" and row[1] not in there:
+                self.note_wrong(place)
+            if row[0] != "tell":
+                steps += self.go_within(row, there)
+                self.behind[place] = len(self.rows)
+        return steps
+
+    def go_within(self, row, there):
+        first = dict(there)
+        steps = self.go_through(row[2], first)
+        if row[0] == "round":
+            if row[1] > 0:
+                there.update(first)
+            return steps * row[1]
+        second = dict(there)
+        others = self.go_through(row[3], second)
+        for name in first:
+            if name in second:
+                there[name] = True
+        return max(steps, others)
+
+    def note_wrong(self, place):
+        if self.wrong_place is None:
+            self.wrong_place = place
+
+    def put_in(self, rows, first, place, other):
+        """The rows with other ones in the place; first is the place of the first one."""
+        at = 0
+        while self.behind[first] <= place:
+            first = self.behind[first]
+            at += 1
+        if first != place:
+            other = (self.put_within(rows[at], first + 1, place, other),)
+        return rows[:at] + other + rows[at + 1:]
+
+    def put_within(self, row, first, place, other):
+        second = first
+        for _ in row[2]:
+            second = self.behind[second]
+        if place < second:
+            return row[:2] + (self.put_in(row[2], first, place, other),) + row[3:]
+        return row[:3] + (self.put_in(row[3], second, place, other),)
 
 
 def uses(row):
@@ -137,35 +217,6 @@ def uses(row):
 def names_in(expr):
     """The NAMES of an EXPR, as they stand."""
     return [part for part in expr[1:] if type(part) is str]
-
-
-def _names_by_places(program):
-    """A list with the rising tuple of the names that are there ahead of each place."""
-    ahead = []
-    _note_names(program[2], tuple(sorted(program[1])), ahead)
-    return ahead
-
-
-def _note_names(rows, names, ahead):
-    """The names at the end of rows that begin with these; ahead takes in those of each row."""
-    for row in rows:
-        ahead.append(names)
-        names = _names_behind(row, names, ahead)
-    return names
-
-
-def _names_behind(row, names, ahead):
-    # The ends are asked for of a round of 0, too: its rows have places.
-    ends = []
-    for rows in inner_rows(row):
-        ends.append(_note_names(rows, names, ahead))
-    if row[0] == "set":
-        return names if row[1] in names else tuple(sorted(names + (row[1],)))
-    if row[0] == "if":
-        return tuple([name for name in ends[0] if name in ends[1]])
-    if row[0] == "round" and row[1] > 0:
-        return ends[0]
-    return names
 
 
 def names_set(rows):
@@ -182,44 +233,14 @@ def names_set(rows):
     return found
 
 
-def _steps_of_rows(rows):
-    return sum([_steps_of_row(row) for row in rows])
-
-
-def _steps_of_row(row):
-    within = [_steps_of_rows(rows) for rows in inner_rows(row)]
-    if row[0] == "if":
-        return 1 + max(within)
-    if row[0] == "round":
-        return 1 + row[1] * within[0]
-    return 1
-
-
 def inner_rows(row):
     """A tuple of the ROWS that stand within a ROW, of an if the first ones ahead."""
     return row[2:] if row[0] in ("if", "round") else ()
 
 
-def _rows_by_places(rows):
-    found = []
-    for row in rows:
-        found.append(row)
-        for within in inner_rows(row):
-            found.extend(_rows_by_places(within))
-    return found
-
-
-def need_place(program, place):
-    """None; refuses as need_program, then anything that is no place of the program."""
-    need_program(program)
-    if not is_whole(place, 0, len(_rows_by_places(program[2])) - 1):
-        raise BadPlace("this is no place of the program")
-
-
 def places_of(program):
     """A list of the ROWS of a program, by places."""
-    need_program(program)
-    return _rows_by_places(program[2])
+    return _looked_at(program, None).rows
 
 
 def set_places(program):
@@ -227,37 +248,27 @@ def set_places(program):
     return [place for place, row in enumerate(places_of(program)) if row[0] == "set"]
 
 
+def need_place(program, place):
+    """None; refuses as need_program, then anything that is no place of the program."""
+    _looked_at_place(program, place)
+
+
+def _looked_at_place(program, place):
+    """A look at a program for a place, both refused as need_place does."""
+    # Nothing but a number is compared with places.
+    look = _looked_at(program, place if type(place) is int else None)
+    if not is_whole(place, 0, len(look.rows) - 1):
+        raise BadPlace("this is no place of the program")
+    return look
+
+
 def names_at(program, place):
     """A rising list of the NAMES that are there ahead of a place."""
-    need_place(program, place)
-    return list(_names_by_places(program)[place])
+    return _looked_at_place(program, place).names
 
 
 def put_at(program, place, other):
     """The program with other ROWS in the place of that one, a PROGRAM or not."""
-    need_place(program, place)
+    look = _looked_at_place(program, place)
     wide, inputs, rows = program
-    return (wide, inputs, _put_in(rows, place, other))
-
-
-def _put_in(rows, place, other):
-    """The rows with other ones at that place, the first row's being 0.
-
-    They stay as they are where the place is ahead of them or behind them.
-    """
-    put = []
-    for row in rows:
-        if place == 0:
-            put.extend(other)
-        else:
-            put.append(_put_within(row, place - 1, other))
-        place -= len(_rows_by_places((row,)))
-    return tuple(put)
-
-
-def _put_within(row, place, other):
-    parts = []
-    for rows in inner_rows(row):
-        parts.append(_put_in(rows, place, other))
-        place -= len(_rows_by_places(rows))
-    return row[:2] + tuple(parts) if parts else row
+    return (wide, inputs, look.put_in(rows, 0, place, tuple(other)))

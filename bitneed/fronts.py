@@ -14,7 +14,7 @@ def facts_ahead(program):
 def _in_order(facts):
     if facts is None:
         return None
-    return tuple([(name, *facts[name]) for name in sorted(facts)])
+    return tuple([(name,) + facts[name] for name in sorted(facts)])
 
 
 def facts_by_places(program):

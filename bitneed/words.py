@@ -15,7 +15,21 @@ def is_name(thing):
     """Whether anything is a NAME."""
     if type(thing) is not str or not 1 <= len(thing) <= LONGEST_NAME:
         return False
-    return all("a" <= sign <= "z" for sign in thing)
+    # All three: letters of other scripts can be small ones, too.
+    return thing.isascii() and thing.isalpha() and thing.islower()
+
+
+def are_names(things):
+    """Whether all of these, of any kinds, are NAMES; none is looked at twice."""
+    looked_at = set()
+    for thing in things:
+        if type(thing) is not str:
+            return False
+        if thing not in looked_at:
+            if not is_name(thing):
+                return False
+            looked_at.add(thing)
+    return True
 
 
 def _are_figures(signs):

@@ -1,6 +1,7 @@
 """The interface by its names and arguments, and what can be seen of the code itself."""
 
 import ast
+import builtins
 import inspect
 import pathlib
 import unittest
@@ -8,6 +9,14 @@ import unittest
 import bitneed
 from bitneed import (bits, errors, forms, fronts, losing, needs, reading, running, showing,
                      words)
+
+# What ../shared/LANGUAGE.md lets a package use, as far as this one has come to use it.
+BUILTINS = {"len", "range", "enumerate", "zip", "min", "max", "sum", "abs", "sorted", "reversed",
+            "int", "str", "bool", "list", "tuple", "dict", "set", "any", "all", "type", "ValueError"}
+METHODS = {"append", "extend", "get", "items", "join", "split", "update", "bit_length", "add",
+           "removeprefix", "isascii", "isalpha", "islower"}
+BARRED = {"register", "mro", "elements", "open", "input", "law", "version_info", "with_traceback",
+          "add_note", "eval", "exec", "exit", "id", "dir", "vars", "help", "globals", "locals"}
 
 FOLDER = pathlib.Path(bitneed.__file__).parent
 
@@ -40,6 +49,15 @@ def files():
 
 def trees():
     return [(path, ast.parse(path.read_text())) for path in files()]
+
+
+def bound_names(tree):
+    """The names that are given a meaning within it: parameters, variables, functions, classes."""
+    names = {node.id for node in ast.walk(tree)
+             if isinstance(node, ast.Name) and isinstance(node.ctx, ast.Store)}
+    names |= {node.arg for node in ast.walk(tree) if isinstance(node, ast.arg)}
+    return names | {node.name for node in ast.walk(tree)
+                    if isinstance(node, (ast.FunctionDef, ast.ClassDef)) and node is not tree}
 
 
 class Interface(unittest.TestCase):
@@ -82,6 +100,59 @@ class Code(unittest.TestCase):
                 if isinstance(node, ast.ImportFrom):
                     self.assertEqual(node.module.split(".")[0], "bitneed", path)
                     self.assertEqual(node.level, 0, path)
+
+    def test_builtins(self):
+        for path, tree in trees():
+            bound = bound_names(tree)
+            for node in ast.walk(tree):
+                if isinstance(node, ast.Name) and hasattr(builtins, node.id):
+                    self.assertIn(node.id, BUILTINS, path)
+            for name in bound - {"__init__"}:
+                self.assertFalse(hasattr(builtins, name) or name in BARRED, (path, name))
+
+    def test_methods(self):
+        own = {node.name for _, tree in trees() for node in ast.walk(tree)
+               if isinstance(node, ast.FunctionDef)}
+        for path, tree in trees():
+            for node in ast.walk(tree):
+                if isinstance(node, ast.Call) and isinstance(node.func, ast.Attribute):
+                    self.assertIn(node.func.attr, METHODS | own, path)
+
+    def test_locals_are_not_called_like_classes_and_imports(self):
+        for path, tree in trees():
+            taken = {name.name for node in tree.body if isinstance(node, ast.ImportFrom)
+                     for name in node.names}
+            taken |= {node.name for node in tree.body if isinstance(node, ast.ClassDef)}
+            for function in ast.walk(tree):
+                if isinstance(function, ast.FunctionDef):
+                    self.assertFalse(taken & bound_names(function), (path, function.name))
+
+    def test_statements_and_values(self):
+        for path, tree in trees():
+            for node in ast.walk(tree):
+                self.assertNotIsInstance(node, (
+                    ast.Global, ast.Nonlocal, ast.Try, ast.With, ast.Lambda, ast.Yield, ast.Assert,
+                    ast.Div, ast.Pow, ast.Mod, ast.Set, ast.SetComp, ast.NamedExpr, ast.Match), path)
+                if isinstance(node, (ast.FunctionDef, ast.ClassDef)):
+                    self.assertEqual(node.decorator_list, [])
+                if isinstance(node, ast.Constant):
+                    self.assertNotIsInstance(node.value, (float, complex, bytes), path)
+                    self.assertNotIn("%", str(node.value), path)
+
+    def test_nothing_is_kept_between_askings(self):
+        # At the top of a file stand constants alone, and nothing changes a table.
+        for path, tree in trees():
+            tables = set()
+            for node in tree.body:
+                self.assertIsInstance(node, (ast.Expr, ast.ImportFrom, ast.FunctionDef, ast.ClassDef,
+                                             ast.Assign), path)
+                if isinstance(node, ast.Assign):
+                    self.assertEqual(node.targets[0].id, node.targets[0].id.upper(), path)
+                    tables.add(node.targets[0].id)
+            for node in ast.walk(tree):
+                if isinstance(node, (ast.Subscript, ast.Name)) and isinstance(node.ctx, ast.Store):
+                    held = node.value if isinstance(node, ast.Subscript) else None
+                    self.assertNotIn(getattr(held, "id", None), tables, path)
 
 
 if __name__ == "__main__":
