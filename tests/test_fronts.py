@@ -196,11 +196,13 @@ class Ifs(FactsTest):
         self.told((2, (), rows), "", "b 3 0", None, "b 3 0", "b 3 0, c 0 3", "b 3 0, d 1 2")
 
     def test_the_names_of_a_way_that_is_not_come_to_are_looked_for_within_it(self):
-        rows = (number("b", 1), ("if", "b", (number("c", 3), number("d", 2), number("e", 1)), (
-            ("if", "b", (number("c", 1), number("d", 1)), (number("d", 2),)),
-            ("round", 2, (number("e", 1),)), ("round", 0, (number("c", 0),)))), ("tell", "d"))
+        first = (number("c", 3), number("d", 2), number("e", 1), number("f", 0))
+        second = (("if", "b", (number("c", 1), number("d", 1)), (number("d", 2),)),
+                  ("round", 2, (number("e", 1),)), ("round", 1, (number("f", 1),)),
+                  ("round", 0, (number("c", 0),)))
+        rows = (number("b", 1), ("if", "b", first, second), ("tell", "d"))
         self.assertEqual(facts_ahead((2, (), rows))[-1],
-                         (("b", 2, 1), ("d", 1, 2), ("e", 2, 1)))
+                         (("b", 2, 1), ("d", 1, 2), ("e", 2, 1), ("f", 3, 0)))
 
     def test_ways_without_rows(self):
         program = (2, ("a",), (("if", "a", (), ()), ("tell", "a")))
