@@ -41,11 +41,11 @@ def is_program(thing):
     wide, inputs, rows = thing
     if not is_whole(wide, 1, WIDEST) or type(inputs) is not tuple or len(inputs) > MOST_INPUTS:
         return False
-    form = _Form(wide, inputs)
+    form = Form(wide, inputs)
     return form.has_rows(rows, 1, 0) and are_names(form.names)
 
 
-class _Form:
+class Form:
     """A going through anything that stands for ROWS.
 
     What stands where NAMES are wanted is only gathered: most of them stand there
@@ -106,7 +106,7 @@ def first_wrong(program):
     """(PLACE, WHAT) of the first wrong place, None where nothing is wrong."""
     if not is_program(program):
         raise BadProgram("this is no program by its form")
-    return _Look(program, None).wrong
+    return Look(program, None).wrong
 
 
 def need_program(thing):
@@ -118,14 +118,14 @@ def _looked_at(program, wanted):
     """A look at a program, which is refused as need_program does."""
     if not is_program(program):
         raise BadProgram("this is no program by its form")
-    look = _Look(program, wanted)
+    look = Look(program, wanted)
     if look.wrong is not None:
         place, what = look.wrong
         raise Unsound(place, what)
     return look
 
 
-class _Look:
+class Look:
     """A look at a program of right form: its rows by places, and what is wrong first.
 
     Of the place that is wanted it has the names that are there ahead.

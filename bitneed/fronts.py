@@ -20,12 +20,12 @@ def _in_order(facts):
 def facts_by_places(program):
     """A list with a dict of FACTS by names for each place of a sound program, or None."""
     rows, many = placed_rows(program)
-    front = _Front(program[0], many)
+    front = Front(program[0], many)
     front.go_through(rows, {name: (0, 0) for name in program[1]})
     return front.ahead
 
 
-class _Front:
+class Front:
     """A going through rows from in front. A dict of facts is never changed once it is told."""
 
     def __init__(self, wide, many):

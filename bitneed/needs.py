@@ -35,11 +35,11 @@ def _in_order(needed):
 def _gone_back(program):
     """A sound program gone through from behind, and the needs ahead of all its rows."""
     rows, many = placed_rows(program)
-    back = _Back(program[0], facts_by_places(program), many)
+    back = Back(program[0], facts_by_places(program), many)
     return back, back.go_back(rows, {})
 
 
-class _Back:
+class Back:
     """A going through rows from behind, by the facts ahead of each place.
 
     NEEDS are a dict with the bits of those names of which one is needed at all.

@@ -13,10 +13,10 @@ def program_in(text):
     """The PROGRAM that a text tells, right by its form."""
     if type(text) is not str:
         raise BadText(0, 0)
-    return _Text(rows_of(text)).read_program()
+    return Text(rows_of(text)).read_program()
 
 
-class _Line:
+class Line:
     """A line with words, which are taken one by one from the left."""
 
     def __init__(self, line, words):
@@ -57,11 +57,11 @@ class _Line:
             raise BadText(self.line, self.taken + 1)
 
 
-class _Text:
+class Text:
     """The lines of a text that have words, which are taken one by one from above."""
 
     def __init__(self, rows):
-        self.lines = [_Line(at + 1, words) for at, words in enumerate(rows) if words]
+        self.lines = [Line(at + 1, words) for at, words in enumerate(rows) if words]
         self.line_behind = len(rows) + 1
         self.taken = 0
         self.wide = 0

@@ -41,13 +41,13 @@ def _gone_through(program, words, left):
     most = (1 << wide) - 1
     if not _are_wholes(words, len(inputs), most):
         raise BadInput("these are no words of the inputs")
-    going = _Going(most, dict(zip(inputs, words)), left)
+    going = Going(most, dict(zip(inputs, words)), left)
     rows, _ = placed_rows(program)
     going.go_through(rows)
     return going
 
 
-class _Going:
+class Going:
     """A run, and what is noted of it."""
 
     def __init__(self, most, words, left):

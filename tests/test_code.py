@@ -4,6 +4,7 @@ import ast
 import builtins
 import inspect
 import pathlib
+import re
 import unittest
 
 import bitneed
@@ -17,6 +18,8 @@ METHODS = {"append", "extend", "get", "items", "join", "split", "update", "bit_l
            "removeprefix", "isascii", "isalpha", "islower"}
 BARRED = {"register", "mro", "elements", "open", "input", "law", "version_info", "with_traceback",
           "add_note", "eval", "exec", "exit", "id", "dir", "vars", "help", "globals", "locals"}
+BARRED_BEGINNINGS = ("_(wall|pe_|dcw_|enum_|cm_|twin_re_|lay_|law_|stub_|sre|WallAttr|cold|tuplegetter"
+                     "|outside|record|written_out|member_names)")
 
 FOLDER = pathlib.Path(bitneed.__file__).parent
 
@@ -100,6 +103,20 @@ class Code(unittest.TestCase):
                 if isinstance(node, ast.ImportFrom):
                     self.assertEqual(node.module.split(".")[0], "bitneed", path)
                     self.assertEqual(node.level, 0, path)
+
+    def test_class_names(self):
+        # Unlike all other names, that of a class doesn't begin with an underscore.
+        for path, tree in trees():
+            for node in ast.walk(tree):
+                if isinstance(node, ast.ClassDef):
+                    self.assertRegex(node.name, r"\A[A-Za-z][A-Za-z0-9_]*\Z", path)
+
+    def test_plain_names(self):
+        for path, tree in trees():
+            fields = {node.attr for node in ast.walk(tree) if isinstance(node, ast.Attribute)}
+            for name in (bound_names(tree) | fields) - {"_", "__init__"}:
+                self.assertRegex(name, r"\A_?[A-Za-z][A-Za-z0-9_]*\Z", path)
+                self.assertIsNone(re.match(BARRED_BEGINNINGS, name), (path, name))
 
     def test_builtins(self):
         for path, tree in trees():
