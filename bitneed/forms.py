@@ -253,6 +253,13 @@ def need_place(program, place):
     _looked_at_place(program, place)
 
 
+def need_set_place(program, place):
+    """None; refuses as need_place, then a place at which no set row stands."""
+    look = _looked_at_place(program, place)
+    if look.rows[place][0] != "set":
+        raise BadPlace("no set row stands at this place")
+
+
 def _looked_at_place(program, place):
     """A look at a program for a place, both refused as need_place does."""
     # Nothing but a number is compared with places.

@@ -36,13 +36,18 @@ class Front:
     def go_through(self, rows, facts):
         """The facts at the end of rows that begin with these."""
         for place, row, ways in rows:
-            self.ahead[place] = facts
+            facts = self.note_ahead(place, facts)
             if row[0] == "set":
                 facts = _with_name(facts, row[1], made_facts(self.wide, row[2], facts))
             elif row[0] == "if":
                 facts = self.behind_if(row, ways, facts)
             elif row[0] == "round" and row[1] > 0:
                 facts = self.behind_round(place, ways[0], facts)
+        return facts
+
+    def note_ahead(self, place, facts):
+        """The facts by which the row is gone through: these, unless others are taken."""
+        self.ahead[place] = facts
         return facts
 
     def behind_if(self, row, ways, facts):

@@ -9,30 +9,30 @@ from bitneed.placed import placed_rows
 def needs(program):
     """For each place (AHEAD, BEHIND), each a tuple of (NAME, BITS)."""
     need_program(program)
-    back, _ = _gone_back(program)
-    return tuple([(_in_order(ahead), _in_order(behind))
+    back, _ = gone_back(program)
+    return tuple([(names_rising(ahead), names_rising(behind))
                   for ahead, behind in zip(back.ahead, back.behind)])
 
 
 def needs_of(program):
     """A tuple of (NAME, BITS) for each INPUT: what is needed of it ahead of all rows."""
     need_program(program)
-    _, ahead = _gone_back(program)
+    _, ahead = gone_back(program)
     return tuple([(name, ahead.get(name, 0)) for name in program[1]])
 
 
 def is_idle(program, place):
     """Whether an IDLE if stands there, and is come to."""
     need_place(program, place)
-    back, _ = _gone_back(program)
+    back, _ = gone_back(program)
     return back.idle[place]
 
 
-def _in_order(needed):
+def names_rising(needed):
     return tuple([(name, needed[name]) for name in sorted(needed)])
 
 
-def _gone_back(program):
+def gone_back(program):
     """A sound program gone through from behind, and the needs ahead of all its rows."""
     rows, many = placed_rows(program)
     back = Back(program[0], facts_by_places(program), many)
@@ -61,12 +61,17 @@ class Back:
             if row[0] == "set":
                 needed = self.ahead_of_set(place, row, needed)
             elif row[0] == "tell":
-                needed = _with_more(needed, [(row[1], (1 << self.wide) - 1)])
+                needed = with_more(needed, [(row[1], (1 << self.wide) - 1)])
             elif row[0] == "if":
                 needed = self.ahead_of_if(place, row, ways, needed)
             elif row[1] > 0:
                 needed = self.ahead_of_round(place, ways[0], needed)
-            self.ahead[place] = needed
+            needed = self.note_ahead(place, needed)
+        return needed
+
+    def note_ahead(self, place, needed):
+        """The needs with which the rows ahead go on: these, unless others are taken."""
+        self.ahead[place] = needed
         return needed
 
     def ahead_of_set(self, place, row, behind):
@@ -75,7 +80,7 @@ class Back:
             return behind
         others = {other: behind[other] for other in behind if other != name}
         action = NEEDS_BY_EXPR[expr[0]]
-        return _with_more(others, action((1 << self.wide) - 1, behind[name], expr, self.facts[place]))
+        return with_more(others, action((1 << self.wide) - 1, behind[name], expr, self.facts[place]))
 
     def ahead_of_if(self, place, row, ways, behind):
         name = row[1]
@@ -88,18 +93,18 @@ class Back:
         if self.idle[place]:
             return behind
         of_name = (1 << self.wide) - 1 if to_second else _lowest(facts[1])
-        return _with_more(_with_more(first, list(second.items())), [(name, of_name)])
+        return with_more(with_more(first, list(second.items())), [(name, of_name)])
 
     def ahead_of_round(self, place, rows, behind):
         # What is needed at the end only grows from one going through to the
         # next, also where a round around this one comes back to it.
-        end = _with_more(behind, list(self.ends.get(place, {}).items()))
+        end = with_more(behind, list(self.ends.get(place, {}).items()))
         ahead = self.go_back(rows, end)
-        wanted = _with_more(end, list(ahead.items()))
+        wanted = with_more(end, list(ahead.items()))
         while wanted != end:
             end = wanted
             ahead = self.go_back(rows, end)
-            wanted = _with_more(end, list(ahead.items()))
+            wanted = with_more(end, list(ahead.items()))
         self.ends[place] = end
         return ahead
 
@@ -114,7 +119,7 @@ def _counts(rows, needed):
     return False
 
 
-def _with_more(needed, more):
+def with_more(needed, more):
     """The needs with more (NAME, BITS), which may be no bits."""
     together = dict(needed)
     for name, bits in more:

@@ -3,7 +3,7 @@
 from bitneed.errors import BadInput, BadWidths
 from bitneed.forms import need_program, set_places
 from bitneed.placed import placed_rows
-from bitneed.words import is_whole
+from bitneed.words import are_wholes
 
 
 def run(program, words):
@@ -21,25 +21,24 @@ def steps(program, words):
 
 def narrowed(program, widths, words):
     """The TELLINGS of the run in which each set row sets a word of its WIDTH."""
-    places = set_places(program)
-    if not _are_wholes(widths, len(places), program[0]):
-        raise BadWidths("these are no widths of the set rows")
-    left = {place: (1 << width) - 1 for place, width in zip(places, widths)}
+    by_place = widths_by_place(program, widths)
+    left = {place: (1 << by_place[place]) - 1 for place in by_place}
     return tuple(_gone_through(program, words, left).told)
 
 
-def _are_wholes(thing, many, most):
-    """Whether anything is a tuple of so many whole numbers from 0 to the most one."""
-    if type(thing) is not tuple or len(thing) != many:
-        return False
-    return all([is_whole(part, 0, most) for part in thing])
+def widths_by_place(program, widths):
+    """A dict of WIDTHS by the places of the set rows; refuses as need_program, then BadWidths."""
+    places = set_places(program)
+    if not are_wholes(widths, len(places), program[0]):
+        raise BadWidths("these are no widths of the set rows")
+    return dict(zip(places, widths))
 
 
 def _gone_through(program, words, left):
     """The run of a sound program; left has the bits that set rows leave, by their places."""
     wide, inputs, _ = program
     most = (1 << wide) - 1
-    if not _are_wholes(words, len(inputs), most):
+    if not are_wholes(words, len(inputs), most):
         raise BadInput("these are no words of the inputs")
     going = Going(most, dict(zip(inputs, words)), left)
     rows, _ = placed_rows(program)

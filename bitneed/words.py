@@ -11,6 +11,13 @@ def is_whole(thing, least, most):
     return type(thing) is int and least <= thing <= most
 
 
+def are_wholes(thing, many, most):
+    """Whether anything is a tuple of so many whole numbers from 0 to the most one."""
+    if type(thing) is not tuple or len(thing) != many:
+        return False
+    return all([is_whole(part, 0, most) for part in thing])
+
+
 def is_name(thing):
     """Whether anything is a NAME."""
     if type(thing) is not str or not 1 <= len(thing) <= LONGEST_NAME:

@@ -359,7 +359,7 @@ class SoundMaker:
             return (kind, self.chance.choice([0, 1, self.chance.randrange(2 ** self.wide)])
                     % 2 ** self.wide)
         if kind in ("up", "down"):
-            return (kind, names[0], self.chance.choice([0, 1, 1, self.wide - 1, self.wide, 11]))
+            return (kind, names[0], self.chance.choice([0, 1, 1, self.wide - 1, min(self.wide, 11), 11]))
         return (kind,) + tuple(names[:{"copy": 1, "pick": 3}.get(kind, 2)])
 
     def row(self, there, deep, rounds):

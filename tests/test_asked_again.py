@@ -11,15 +11,22 @@ from bitneed.forms import (first_wrong, is_program, names_at, need_program, plac
 from bitneed.fronts import facts_ahead
 from bitneed.losing import loses, lossless
 from bitneed.needs import is_idle, needs, needs_of
+from bitneed.papers import check_facts, check_needs, facts_paper, needs_paper, paper_widths
 from bitneed.reading import program_in
 from bitneed.running import narrowed, run, steps
 from bitneed.showing import expr_text, program_text
+from bitneed.truly import alone, holds_truly, together
+from bitneed.widths import spared, widest, widths
 from bitneed.words import is_name, is_whole, number_in, rows_of
 from tests.kit import ALL_EXPRS, SAMPLE, SAMPLE_NAMES, SAMPLE_TEXT, TELL_A, as_lists
 
 UNSOUND = (8, ("a",), (TELL_A, ("tell", "z")))
 
 FACTS = {"c": (0, 0), "y": (5, 2), "z": (8, 0)}
+
+SMALL = (2,) + SAMPLE[1:]
+PAPER = facts_paper(SAMPLE)
+OTHER_PAPER = needs_paper(SAMPLE)
 
 ASKED = [
     (is_whole, 3, 0, 5), (is_name, "abc"), (number_in, "-12"), (rows_of, " a b\n\nc"),
@@ -38,6 +45,14 @@ ASKED = [
     (steps, SAMPLE, (0, 255)), (narrowed, SAMPLE, (4,) * 12, (1, 2)), (narrowed, SAMPLE, (), ()),
     (loses, SAMPLE), (lossless, SAMPLE), (needs, SAMPLE), (needs, ()), (needs_of, SAMPLE),
     (is_idle, SAMPLE, 2), (is_idle, SAMPLE, 19),
+    (widths, SAMPLE), (widths, UNSOUND), (widest, SAMPLE), (spared, SAMPLE),
+    (facts_paper, SAMPLE), (needs_paper, SAMPLE), (check_facts, SAMPLE, PAPER),
+    (check_facts, SAMPLE, PAPER[1:]), (check_facts, SAMPLE, list(PAPER)),
+    (check_needs, SAMPLE, PAPER, OTHER_PAPER), (check_needs, SAMPLE, PAPER, PAPER),
+    (check_needs, SAMPLE, PAPER, as_lists(OTHER_PAPER)),
+    (paper_widths, SAMPLE, PAPER, OTHER_PAPER), (paper_widths, SAMPLE, PAPER, ()),
+    (holds_truly, SMALL, (2,) * 12), (holds_truly, SMALL, (0,) * 12), (holds_truly, SMALL, [2] * 12),
+    (holds_truly, SAMPLE, (2,) * 12), (alone, SMALL, 0), (alone, SMALL, 2), (together, SMALL),
 ] + [(expr_text, expr) for expr in ALL_EXPRS] + [(expr_facts, 4, expr, FACTS) for expr in ALL_EXPRS]
 
 

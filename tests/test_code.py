@@ -8,8 +8,8 @@ import re
 import unittest
 
 import bitneed
-from bitneed import (bits, errors, forms, fronts, losing, needs, reading, running, showing,
-                     words)
+from bitneed import (bits, errors, forms, fronts, losing, needs, papers, reading, running, showing,
+                     truly, widths, words)
 
 # What ../shared/LANGUAGE.md lets a package use, as far as this one has come to use it.
 BUILTINS = {"len", "range", "enumerate", "zip", "min", "max", "sum", "abs", "sorted", "reversed",
@@ -40,6 +40,12 @@ INTERFACE = {
               "narrowed": ["program", "widths", "words"]},
     losing: {"loses": ["program"], "lossless": ["program"]},
     needs: {"needs": ["program"], "needs_of": ["program"], "is_idle": ["program", "place"]},
+    widths: {"widths": ["program"], "widest": ["program"], "spared": ["program"]},
+    papers: {"facts_paper": ["program"], "needs_paper": ["program"],
+             "check_facts": ["program", "paper"], "check_needs": ["program", "facts", "needs"],
+             "paper_widths": ["program", "facts", "needs"]},
+    truly: {"holds_truly": ["program", "widths"], "alone": ["program", "place"],
+            "together": ["program"]},
 }
 
 REFUSALS = ["BitError", "BadText", "Unsound", "BadProgram", "BadInput", "BadPlace", "BadFacts",

@@ -21,11 +21,12 @@ class Flow:
     """An oracle: the facts as they flow from point to point, until nothing flows any more.
 
     A point that nothing flows to isn't come to. Each link is where from, where to, how, and the
-    names that are there.
+    names that are there. Of what flows to a place bits may be left, by (PLACE, NAME).
     """
 
-    def __init__(self, program):
+    def __init__(self, program, left=None):
         self.wide = program[0]
+        self.left = left or {}
         self.links = []
         begin = {name: (0, 0) for name in program[1]}
         self.facts = {"begin": begin}
@@ -48,7 +49,7 @@ class Flow:
 
     def link(self, rows, place, point, names):
         for row in rows:
-            self.links.append((point, ("ahead", place), dict, names))
+            self.links.append((point, ("ahead", place), functools.partial(self.taken, place), names))
             names = self.link_row(row, place, names)
             point = ("behind", place)
             place += size_of(row)
@@ -83,6 +84,10 @@ class Flow:
         self.links.append((one, behind, dict, first & second))
         self.links.append((other, behind, dict, first & second))
         return first & second
+
+    def taken(self, place, facts):
+        return {name: tuple(bits & ~self.left.get((place, name), 0) for bits in facts[name])
+                for name in facts}
 
     def set(self, row, facts):
         parts = tuple(facts[part] if isinstance(part, str) else part for part in row[2][1:])

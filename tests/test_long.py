@@ -10,9 +10,12 @@ from bitneed.forms import first_wrong, places_of, set_places
 from bitneed.fronts import facts_ahead
 from bitneed.losing import loses, lossless
 from bitneed.needs import is_idle, needs, needs_of
+from bitneed.papers import check_facts, check_needs, facts_paper, needs_paper, paper_widths
 from bitneed.reading import program_in
 from bitneed.running import narrowed, run, steps
 from bitneed.showing import program_text
+from bitneed.truly import alone, holds_truly, together
+from bitneed.widths import spared, widest, widths
 from tests.kit import ALL_EXPRS, copy, number, one_in_another
 
 LONGEST = 12000
@@ -160,9 +163,12 @@ class LongPrograms(LongTest):
         for program in self.PROGRAMS:
             many = len(set_places(program))
             words = (1,) * len(program[1])
+            facts, needed = facts_paper(program), needs_paper(program)
             for asked in ((facts_ahead,), (loses,), (lossless,), (needs,), (needs_of,),
                           (is_idle, 0), (run, words), (steps, words),
-                          (narrowed, (11,) * many, words)):
+                          (narrowed, (11,) * many, words), (widths,), (widest,), (spared,),
+                          (facts_paper,), (needs_paper,), (check_facts, facts),
+                          (check_needs, facts, needed), (paper_widths, facts, needed)):
                 self.within(4, self.ten_times, asked[0], program, *asked[1:])
 
     def ten_times(self, asked, *parts):
@@ -179,6 +185,39 @@ class LongPrograms(LongTest):
         self.assertEqual(counted[-1], tuple((name, 0, 0) for name in names(12)) + (
             ("one", 4094, 1), ("t", 4094, 0)))
         self.assertEqual(dict(needs_of(of_many_names())), {"aa": 4095, "ab": 4095, "ac": 4095})
+
+
+def of_set_rows(wide, inputs):
+    """Twenty-four set rows, none of them for nothing, gone through in 2,000 steps."""
+    there = list(inputs) + names(8 - len(inputs))
+    zeros = tuple(number(name, 0) for name in there[len(inputs):])
+    rows = []
+    for at in range(24 - len(zeros)):
+        kind = ("add", "unlike", "less", "or")[at % 4]
+        rows.append(("set", there[at % 8], (kind, there[(at + 3) % 8], there[at * 5 % 8])))
+    rounds = ("round", 12, (("round", 1980 // 12 // (len(rows) + 1), tuple(rows)),))
+    return (wide, tuple(inputs), zeros + (rounds,) + tuple(("tell", name) for name in there))
+
+
+class LongTrials(LongTest):
+    def test_twenty_four_set_rows_and_eight_bits(self):
+        for wide, inputs in ((8, "a"), (4, "ab"), (2, "abcd"), (12, "")):
+            program = of_set_rows(wide, inputs)
+            self.assertIsNone(first_wrong(program))
+            places = set_places(program)
+            self.assertEqual(len(places), 24)
+            told = self.within(8, together, program)
+            self.assertIs(self.within(1, holds_truly, program, told), True)
+            self.assertIs(self.within(1, holds_truly, program, (wide,) * 24), True)
+            for place in places[::6]:
+                self.within(2, alone, program, place)
+
+    def test_rows_that_are_told_by_some_alone(self):
+        # Each tells as often as its word says, so none of them tells as often as another.
+        tells = ("if", "a", (("tell", "b"), ("set", "a", ("less", "a", "one"))), ())
+        program = (8, ("a",), (number("one", 1), copy("b", "a"), ("round", 12, (
+            ("round", 12, (tells,)),)), ("round", 12, (("round", 10, (tells,)),))))
+        self.assertEqual(self.within(4, together, program), (1, 8, 8, 7))
 
 
 if __name__ == "__main__":

@@ -12,15 +12,15 @@ from tests.kit import (NOT_PLACES, SAMPLE, SET_A, TELL_A, Walk, all_words, copy,
 class Rules:
     """An oracle: the rules taken one by one for all places at once, until none adds a bit.
 
-    Needs are a set of (NAME, BIT); all of them only grow.
+    Needs are a set of (NAME, BIT); all of them only grow, from those that are taken at first.
     """
 
-    def __init__(self, program):
+    def __init__(self, program, facts=None, taken=None):
         self.wide = program[0]
-        self.facts = [facts and {name: (zeros, ones) for name, zeros, ones in facts}
-                      for facts in facts_ahead(program)]
+        self.facts = [part and {name: (zeros, ones) for name, zeros, ones in part}
+                      for part in facts or facts_ahead(program)]
         many = len(self.facts)
-        self.ahead = [set() for _ in range(many)]
+        self.ahead = taken or [set() for _ in range(many)]
         self.behind = [set() for _ in range(many)]
         before = None
         while before != (self.ahead, self.behind):

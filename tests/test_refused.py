@@ -8,7 +8,10 @@ from bitneed.forms import (first_wrong, is_program, names_at, need_program, plac
 from bitneed.fronts import facts_ahead
 from bitneed.losing import loses, lossless
 from bitneed.needs import is_idle, needs, needs_of
+from bitneed.papers import check_facts, check_needs, facts_paper, needs_paper, paper_widths
 from bitneed.running import narrowed, run, steps
+from bitneed.truly import alone, holds_truly, together
+from bitneed.widths import spared, widest, widths
 from tests.kit import (ODD, SAMPLE, SET_A, TELL_A, Maker, all_paths, as_lists, one_in_another,
                        part_at, rows_of_many, with_part)
 
@@ -27,6 +30,17 @@ ASKERS = {
     "needs": needs,
     "needs_of": needs_of,
     "is_idle": lambda program: is_idle(program, 0),
+    "widths": widths,
+    "widest": widest,
+    "spared": spared,
+    "facts_paper": facts_paper,
+    "needs_paper": needs_paper,
+    "check_facts": lambda program: check_facts(program, facts_paper(SAMPLE)),
+    "check_needs": lambda program: check_needs(program, facts_paper(SAMPLE), needs_paper(SAMPLE)),
+    "paper_widths": lambda program: paper_widths(program, facts_paper(SAMPLE), needs_paper(SAMPLE)),
+    "holds_truly": lambda program: holds_truly(program, (1,) * 12),
+    "alone": lambda program: alone(program, 0),
+    "together": together,
 }
 
 # With what would be refused as well, if it were looked at first.
@@ -37,6 +51,11 @@ WITH_MORE = {
     "steps": lambda program: steps(program, "no words"),
     "narrowed": lambda program: narrowed(program, "no widths", "no words"),
     "is_idle": lambda program: is_idle(program, "no place"),
+    "check_facts": lambda program: check_facts(program, "no paper"),
+    "check_needs": lambda program: check_needs(program, "no paper", "no paper"),
+    "paper_widths": lambda program: paper_widths(program, "no paper", "no paper"),
+    "holds_truly": lambda program: holds_truly(program, "no widths"),
+    "alone": lambda program: alone(program, "no place"),
 }
 
 ALL = list(ASKERS.items()) + list(WITH_MORE.items())
