@@ -188,23 +188,24 @@ class Look:
         if self.wrong_place is None:
             self.wrong_place = place
 
-    def put_in(self, rows, first, place, other):
-        """The rows with other ones in the place; first is the place of the first one."""
+    def put_in(self, rows, first, place, many, other):
+        """The rows with others for so many from the place on; first is the place of the first one."""
         at = 0
         while self.behind[first] <= place:
             first = self.behind[first]
             at += 1
         if first != place:
-            other = (self.put_within(rows[at], first + 1, place, other),)
-        return rows[:at] + other + rows[at + 1:]
+            other = (self.put_within(rows[at], first + 1, place, many, other),)
+            many = 1
+        return rows[:at] + other + rows[at + many:]
 
-    def put_within(self, row, first, place, other):
+    def put_within(self, row, first, place, many, other):
         second = first
         for _ in row[2]:
             second = self.behind[second]
         if place < second:
-            return row[:2] + (self.put_in(row[2], first, place, other),) + row[3:]
-        return row[:3] + (self.put_in(row[3], second, place, other),)
+            return row[:2] + (self.put_in(row[2], first, place, many, other),) + row[3:]
+        return row[:3] + (self.put_in(row[3], second, place, many, other),)
 
 
 def uses(row):
@@ -276,6 +277,11 @@ def names_at(program, place):
 
 def put_at(program, place, other):
     """The program with other ROWS in the place of that one, a PROGRAM or not."""
+    return put_for(program, place, 1, tuple(other))
+
+
+def put_for(program, place, many, other):
+    """As put_at, in the place of so many that stand there behind one another in the same ROWS."""
     look = _looked_at_place(program, place)
     wide, inputs, rows = program
-    return (wide, inputs, look.put_in(rows, 0, place, tuple(other)))
+    return (wide, inputs, look.put_in(rows, 0, place, many, other))

@@ -12,6 +12,18 @@ def placed_rows(program):
     return _placed_from(program[2], 0)
 
 
+def rows_from(rows, place):
+    """Those of the placed rows that stand in the same ROWS from that place on."""
+    for at, (here, _, ways) in enumerate(rows):
+        if here == place:
+            return rows[at:]
+        for way in ways:
+            found = rows_from(way, place)
+            if found:
+                return found
+    return []
+
+
 def _placed_from(rows, place):
     """The rows with their places from that one on, and the place behind them."""
     found = []

@@ -9,21 +9,21 @@ from bitneed.words import are_wholes
 def run(program, words):
     """(TELLINGS, LOST) of a run that begins with a WORD for each INPUT."""
     need_program(program)
-    going = _gone_through(program, words, {})
+    going = gone_through(program, words, {}, {})
     return (tuple(going.told), tuple(sorted(going.lost)))
 
 
 def steps(program, words):
     """A tuple of (PLACE, WORD) for each set, tell and if row each time it is gone through."""
     need_program(program)
-    return tuple(_gone_through(program, words, {}).noted)
+    return tuple(gone_through(program, words, {}, {}).noted)
 
 
 def narrowed(program, widths, words):
     """The TELLINGS of the run in which each set row sets a word of its WIDTH."""
     by_place = widths_by_place(program, widths)
     left = {place: (1 << by_place[place]) - 1 for place in by_place}
-    return tuple(_gone_through(program, words, left).told)
+    return tuple(gone_through(program, words, left, {}).told)
 
 
 def widths_by_place(program, widths):
@@ -34,13 +34,13 @@ def widths_by_place(program, widths):
     return dict(zip(places, widths))
 
 
-def _gone_through(program, words, left):
-    """The run of a sound program; left has the bits that set rows leave, by their places."""
+def gone_through(program, words, left, turns):
+    """The run of a sound program; by their places set rows have bits that they leave, or turn."""
     wide, inputs, _ = program
     most = (1 << wide) - 1
     if not are_wholes(words, len(inputs), most):
         raise BadInput("these are no words of the inputs")
-    going = Going(most, dict(zip(inputs, words)), left)
+    going = Going(most, dict(zip(inputs, words)), left, turns)
     rows, _ = placed_rows(program)
     going.go_through(rows)
     return going
@@ -49,10 +49,11 @@ def _gone_through(program, words, left):
 class Going:
     """A run, and what is noted of it."""
 
-    def __init__(self, most, words, left):
+    def __init__(self, most, words, left, turns):
         self.most = most
         self.words = words
         self.left = left
+        self.turns = turns
         self.told = []
         self.lost = {}
         self.noted = []
@@ -76,7 +77,7 @@ class Going:
         word = whole & self.most
         if word != whole:
             self.lost[place] = True
-        word = word & self.left.get(place, self.most)
+        word = (word & self.left.get(place, self.most)) ^ self.turns.get(place, 0)
         self.words[row[1]] = word
         self.noted.append((place, word))
 

@@ -11,11 +11,15 @@ from bitneed.forms import (first_wrong, is_program, names_at, need_program, plac
 from bitneed.fronts import facts_ahead
 from bitneed.losing import loses, lossless
 from bitneed.needs import is_idle, needs, needs_of
+from bitneed.desk import all_said
 from bitneed.papers import check_facts, check_needs, facts_paper, needs_paper, paper_widths
+from bitneed.plain import is_plain, made_plain, plain_at
 from bitneed.reading import program_in
+from bitneed.rules import rewritten, same_but_names
 from bitneed.running import narrowed, run, steps
 from bitneed.showing import expr_text, program_text
 from bitneed.truly import alone, holds_truly, together
+from bitneed.trying import apart_by_widths, counting, put_in, told_apart, turned
 from bitneed.widths import spared, widest, widths
 from bitneed.words import is_name, is_whole, number_in, rows_of
 from tests.kit import ALL_EXPRS, SAMPLE, SAMPLE_NAMES, SAMPLE_TEXT, TELL_A, as_lists
@@ -53,6 +57,14 @@ ASKED = [
     (paper_widths, SAMPLE, PAPER, OTHER_PAPER), (paper_widths, SAMPLE, PAPER, ()),
     (holds_truly, SMALL, (2,) * 12), (holds_truly, SMALL, (0,) * 12), (holds_truly, SMALL, [2] * 12),
     (holds_truly, SAMPLE, (2,) * 12), (alone, SMALL, 0), (alone, SMALL, 2), (together, SMALL),
+    (made_plain, SAMPLE), (plain_at, SAMPLE, 2), (plain_at, SAMPLE, 19), (is_plain, SAMPLE),
+    (rewritten, SAMPLE, "names", 0), (rewritten, SAMPLE, "turn", 10), (rewritten, SAMPLE, "into", 2),
+    (rewritten, SAMPLE, "into", 3), (rewritten, SAMPLE, "none", 3), (same_but_names, SAMPLE, SMALL),
+    (put_in, SMALL), (put_in, SAMPLE), (told_apart, SMALL, SMALL), (told_apart, SMALL, SAMPLE),
+    (apart_by_widths, SMALL, (0,) * 12), (counting, SMALL, 0), (counting, SMALL, 17),
+    (turned, SAMPLE, 0, 255, (1, 2)), (turned, SAMPLE, 0, 256, (1, 2)),
+    (all_said, SAMPLE_TEXT, ["plain", "program", "back", "rule names 0", "widths", "run 1 2", "x"]),
+    (all_said, "wide", []), (all_said, SAMPLE_TEXT, [None]),
 ] + [(expr_text, expr) for expr in ALL_EXPRS] + [(expr_facts, 4, expr, FACTS) for expr in ALL_EXPRS]
 
 

@@ -8,14 +8,14 @@ import re
 import unittest
 
 import bitneed
-from bitneed import (bits, errors, forms, fronts, losing, needs, papers, reading, running, showing,
-                     truly, widths, words)
+from bitneed import (bits, desk, errors, forms, fronts, losing, needs, papers, plain, reading, rules,
+                     running, showing, truly, trying, widths, words)
 
 # What ../shared/LANGUAGE.md lets a package use, as far as this one has come to use it.
 BUILTINS = {"len", "range", "enumerate", "zip", "min", "max", "sum", "abs", "sorted", "reversed",
             "int", "str", "bool", "list", "tuple", "dict", "set", "any", "all", "type", "ValueError"}
 METHODS = {"append", "extend", "get", "items", "join", "split", "update", "bit_length", "add",
-           "removeprefix", "isascii", "isalpha", "islower"}
+           "removeprefix", "isascii", "isalpha", "islower", "pop", "replace"}
 BARRED = {"register", "mro", "elements", "open", "input", "law", "version_info", "with_traceback",
           "add_note", "eval", "exec", "exit", "id", "dir", "vars", "help", "globals", "locals"}
 BARRED_BEGINNINGS = ("_(wall|pe_|dcw_|enum_|cm_|twin_re_|lay_|law_|stub_|sre|WallAttr|cold|tuplegetter"
@@ -46,6 +46,12 @@ INTERFACE = {
              "paper_widths": ["program", "facts", "needs"]},
     truly: {"holds_truly": ["program", "widths"], "alone": ["program", "place"],
             "together": ["program"]},
+    plain: {"made_plain": ["program"], "plain_at": ["program", "place"], "is_plain": ["program"]},
+    rules: {"rewritten": ["program", "rule", "place"], "same_but_names": ["one", "other"]},
+    trying: {"put_in": ["program"], "told_apart": ["program", "other"],
+             "apart_by_widths": ["program", "widths"], "counting": ["program", "place"],
+             "turned": ["program", "place", "bits", "words"]},
+    desk: {"Desk": ["text"], "all_said": ["text", "lines"]},
 }
 
 REFUSALS = ["BitError", "BadText", "Unsound", "BadProgram", "BadInput", "BadPlace", "BadFacts",
@@ -80,6 +86,10 @@ class Interface(unittest.TestCase):
     def test_classes_stand_in_their_file(self):
         for name in REFUSALS:
             self.assertEqual(getattr(errors, name).__module__, "bitneed.errors")
+
+    def test_methods_stand_in_their_class(self):
+        said = vars(desk.Desk)["said"]
+        self.assertEqual(list(inspect.signature(said).parameters), ["self", "line"])
 
 
 class Code(unittest.TestCase):
@@ -154,8 +164,13 @@ class Code(unittest.TestCase):
         for path, tree in trees():
             for node in ast.walk(tree):
                 self.assertNotIsInstance(node, (
-                    ast.Global, ast.Nonlocal, ast.Try, ast.With, ast.Lambda, ast.Yield, ast.Assert,
-                    ast.Div, ast.Pow, ast.Mod, ast.Set, ast.SetComp, ast.NamedExpr, ast.Match), path)
+                    ast.Global, ast.Nonlocal, ast.With, ast.Lambda, ast.Yield, ast.Assert, ast.Div,
+                    ast.Pow, ast.Set, ast.SetComp, ast.NamedExpr, ast.Match), path)
+                if isinstance(node, ast.Try):
+                    self.assertEqual([node.orelse, node.finalbody], [[], []], path)
+                if isinstance(node, ast.ExceptHandler):
+                    # Own refusals alone, each by its name.
+                    self.assertIn(node.type.id, REFUSALS, path)
                 if isinstance(node, (ast.FunctionDef, ast.ClassDef)):
                     self.assertEqual(node.decorator_list, [])
                 if isinstance(node, ast.Constant):

@@ -10,15 +10,20 @@ from bitneed.forms import first_wrong, places_of, set_places
 from bitneed.fronts import facts_ahead
 from bitneed.losing import loses, lossless
 from bitneed.needs import is_idle, needs, needs_of
+from bitneed.desk import Desk, all_said
 from bitneed.papers import check_facts, check_needs, facts_paper, needs_paper, paper_widths
+from bitneed.plain import is_plain, made_plain, plain_at
 from bitneed.reading import program_in
+from bitneed.rules import rewritten, same_but_names
 from bitneed.running import narrowed, run, steps
 from bitneed.showing import program_text
 from bitneed.truly import alone, holds_truly, together
+from bitneed.trying import apart_by_widths, counting, put_in, told_apart
 from bitneed.widths import spared, widest, widths
 from tests.kit import ALL_EXPRS, copy, number, one_in_another
 
 LONGEST = 12000
+RULES = ["names", "more", "twin", "one", "turn", "choose", "into"]
 
 
 class LongTest(unittest.TestCase):
@@ -168,7 +173,9 @@ class LongPrograms(LongTest):
                           (is_idle, 0), (run, words), (steps, words),
                           (narrowed, (11,) * many, words), (widths,), (widest,), (spared,),
                           (facts_paper,), (needs_paper,), (check_facts, facts),
-                          (check_needs, facts, needed), (paper_widths, facts, needed)):
+                          (check_needs, facts, needed), (paper_widths, facts, needed),
+                          (made_plain,), (plain_at, 0), (is_plain,), (same_but_names, program),
+                          *[(rewritten, rule, 0) for rule in RULES]):
                 self.within(4, self.ten_times, asked[0], program, *asked[1:])
 
     def ten_times(self, asked, *parts):
@@ -211,6 +218,11 @@ class LongTrials(LongTest):
             self.assertIs(self.within(1, holds_truly, program, (wide,) * 24), True)
             for place in places[::6]:
                 self.within(2, alone, program, place)
+                self.within(2, counting, program, place)
+            self.within(1, put_in, program)
+            self.assertIsNone(self.within(1, told_apart, program, made_plain(program)))
+            self.assertIsNone(self.within(1, apart_by_widths, program, told))
+            self.within(1, apart_by_widths, program, (0,) * 24)
 
     def test_rows_that_are_told_by_some_alone(self):
         # Each tells as often as its word says, so none of them tells as often as another.
@@ -218,6 +230,39 @@ class LongTrials(LongTest):
         program = (8, ("a",), (number("one", 1), copy("b", "a"), ("round", 12, (
             ("round", 12, (tells,)),)), ("round", 12, (("round", 10, (tells,)),))))
         self.assertEqual(self.within(4, together, program), (1, 8, 8, 7))
+
+
+class LongDesks(LongTest):
+    def test_three_hundred_lines_at_one_desk(self):
+        kinds = ["facts {}", "needs {}", "behind {}", "alone {}", "rule more {}", "rule into {}",
+                 "rule turn {}", "widths", "loses", "program", "run 1 1", "narrow 1 1", "together"]
+        for program in LongPrograms.PROGRAMS:
+            lines = [kinds[at % len(kinds)].format(at % 60) for at in range(300)]
+            told = self.within(8, all_said, program_text(program), lines)
+            self.assertEqual(len(told), 300)
+
+    def test_lines_of_many_blanks(self):
+        gap = " " * 5000
+        desk = Desk("wide 4\nin a\ntell a")
+        told = self.within(4, lambda: [desk.said(f"{gap}run{gap}{at % 16}{gap}") for at in range(300)])
+        self.assertEqual(told, [f"{at % 16}, lost none" for at in range(300)])
+        self.assertEqual(self.within(1, desk.said, gap * 2), "bad line")
+        self.assertEqual(self.within(1, desk.said, "run" + " 1" * 5000), "bad input")
+        self.assertEqual(self.within(1, desk.said, "x" * LONGEST), "bad line")
+
+    def test_two_hundred_tellings_and_backs(self):
+        for program in LongPrograms.PROGRAMS:
+            for line in ("plain", "rule names 0"):
+                lines = [line] * 200 + ["back"] * 201 + ["program"]
+                told = self.within(8, all_said, program_text(program), lines)
+                self.assertEqual(told[:401], ["done"] * 400 + ["nothing"])
+                self.assertEqual(program_in(told[401].replace(" ; ", "\n")), program)
+
+    def test_the_same_line_again_and_again(self):
+        program = of_set_rows(8, "a")
+        lines = ["together", "alone 9", "apart " + "8 " * 24] * 100
+        told = self.within(8, all_said, program_text(program), lines)
+        self.assertEqual(told, told[:3] * 100)
 
 
 if __name__ == "__main__":

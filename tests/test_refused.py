@@ -9,8 +9,11 @@ from bitneed.fronts import facts_ahead
 from bitneed.losing import loses, lossless
 from bitneed.needs import is_idle, needs, needs_of
 from bitneed.papers import check_facts, check_needs, facts_paper, needs_paper, paper_widths
+from bitneed.plain import is_plain, made_plain, plain_at
+from bitneed.rules import rewritten, same_but_names
 from bitneed.running import narrowed, run, steps
 from bitneed.truly import alone, holds_truly, together
+from bitneed.trying import apart_by_widths, counting, put_in, told_apart, turned
 from bitneed.widths import spared, widest, widths
 from tests.kit import (ODD, SAMPLE, SET_A, TELL_A, Maker, all_paths, as_lists, one_in_another,
                        part_at, rows_of_many, with_part)
@@ -41,7 +44,21 @@ ASKERS = {
     "holds_truly": lambda program: holds_truly(program, (1,) * 12),
     "alone": lambda program: alone(program, 0),
     "together": together,
+    "made_plain": made_plain,
+    "plain_at": lambda program: plain_at(program, 0),
+    "is_plain": is_plain,
+    "rewritten": lambda program: rewritten(program, "names", 0),
+    "same_but_names": lambda program: same_but_names(program, SAMPLE),
+    "same_but_names, the other": lambda program: same_but_names(SAMPLE, program),
+    "put_in": put_in,
+    "told_apart": lambda program: told_apart(program, SAMPLE),
+    "told_apart, the other": lambda program: told_apart(SAMPLE, program),
+    "apart_by_widths": lambda program: apart_by_widths(program, (1,) * 12),
+    "counting": lambda program: counting(program, 0),
+    "turned": lambda program: turned(program, 0, 1, (1, 1)),
 }
+
+UNSOUND = (8, ("a",), (TELL_A,) * 40 + (("tell", "none"),))
 
 # With what would be refused as well, if it were looked at first.
 WITH_MORE = {
@@ -56,6 +73,13 @@ WITH_MORE = {
     "paper_widths": lambda program: paper_widths(program, "no paper", "no paper"),
     "holds_truly": lambda program: holds_truly(program, "no widths"),
     "alone": lambda program: alone(program, "no place"),
+    "plain_at": lambda program: plain_at(program, "no place"),
+    "rewritten": lambda program: rewritten(program, "no rule", "no place"),
+    "same_but_names": lambda program: same_but_names(program, UNSOUND),
+    "told_apart": lambda program: told_apart(program, UNSOUND),
+    "apart_by_widths": lambda program: apart_by_widths(program, "no widths"),
+    "counting": lambda program: counting(program, "no place"),
+    "turned": lambda program: turned(program, "no place", "no bits", "no words"),
 }
 
 ALL = list(ASKERS.items()) + list(WITH_MORE.items())
