@@ -1,11 +1,14 @@
-"""Texts read as programs, line by line and word by word."""
+"""Texts read as programs, line by line.
+
+Each line is looked at as a whole, and a word that was a NAME before isn't looked
+at again. Only a line that can't stand there is gone through for its first wrong word.
+"""
 
 from bitneed.errors import BadText
 from bitneed.forms import (EXPR_PARTS, MOST_GOINGS, MOST_INPUTS, MOST_ROUNDS_WITHIN, MOST_ROWS,
                            MOST_SHIFT, MOST_WITHIN, WIDEST)
 from bitneed.words import is_name, number_in, rows_of
 
-ROW_WORDS = ("set", "tell", "if", "round")
 CLOSING_WORDS = ("else", "end")
 
 
@@ -16,146 +19,144 @@ def program_in(text):
     return Text(rows_of(text)).read_program()
 
 
-class Line:
-    """A line with words, which are taken one by one from the left."""
-
-    def __init__(self, line, words):
-        self.line = line
-        self.words = words
-        self.taken = 0
-
-    def take_word(self):
-        self.taken += 1
-        if self.taken > len(self.words):
-            raise BadText(self.line, self.taken)
-        return self.words[self.taken - 1]
-
-    def take_one_of(self, wanted):
-        word = self.take_word()
-        if word not in wanted:
-            raise BadText(self.line, self.taken)
-        return word
-
-    def take_name(self):
-        word = self.take_word()
-        if not is_name(word):
-            raise BadText(self.line, self.taken)
-        return word
-
-    def take_number(self, least, most):
-        number = number_in(self.take_word())
-        if number is None or not least <= number <= most:
-            raise BadText(self.line, self.taken)
-        return number
-
-    def has_more(self):
-        return self.taken < len(self.words)
-
-    def close(self):
-        """Refuses a word too many."""
-        if self.has_more():
-            raise BadText(self.line, self.taken + 1)
-
-
 class Text:
     """The lines of a text that have words, which are taken one by one from above."""
 
-    def __init__(self, rows):
-        self.lines = [Line(at + 1, words) for at, words in enumerate(rows) if words]
-        self.line_behind = len(rows) + 1
+    def __init__(self, all_lines):
+        self.all_lines = all_lines
+        self.lines = [words for words in all_lines if words]
         self.taken = 0
-        self.wide = 0
         self.many_rows = 0
-
-    def take_line(self):
-        if self.taken == len(self.lines):
-            raise BadText(self.line_behind, 1)
-        self.taken += 1
-        return self.lines[self.taken - 1]
-
-    def take_closing(self, word):
-        line = self.take_line()
-        line.take_one_of((word,))
-        line.close()
+        self.names = {}
+        self.bounds = {"wide": (1, WIDEST), "goings": (0, MOST_GOINGS), "shift": (0, MOST_SHIFT)}
 
     def read_program(self):
-        self.wide = self.read_wide()
+        wide = self.number_behind(self.take_line_of("wide"), "wide")
+        self.bounds["word"] = (0, (1 << wide) - 1)
         inputs = self.read_inputs()
         rows = self.read_rows(1, 0)
         if self.taken < len(self.lines):
             # Rows end ahead of an else or an end; here this closes nothing.
-            raise BadText(self.lines[self.taken].line, 1)
-        return (self.wide, inputs, rows)
-
-    def read_wide(self):
-        line = self.take_line()
-        line.take_one_of(("wide",))
-        wide = line.take_number(1, WIDEST)
-        line.close()
-        return wide
+            self.taken += 1
+            self.refuse(1)
+        return (wide, inputs, rows)
 
     def read_inputs(self):
-        line = self.take_line()
-        line.take_one_of(("in",))
-        inputs = []
-        while line.has_more() and len(inputs) < MOST_INPUTS:
-            inputs.append(line.take_name())
-        line.close()
-        return tuple(inputs)
+        words = self.take_line_of("in")
+        if len(words) > MOST_INPUTS + 1 or not self.are_names(words):
+            self.refuse_first_wrong(words, ("name",) * min(len(words) - 1, MOST_INPUTS))
+        return tuple(words[1:])
 
     def read_rows(self, deep, rounds):
         """The ROWS from here on: so deep, and within so many rounds."""
-        rows = []
-        while self.taken < len(self.lines) and self.lines[self.taken].words[0] not in CLOSING_WORDS:
-            rows.append(self.read_row(deep, rounds))
-        return tuple(rows)
+        found = []
+        lines = self.lines
+        most = MOST_ROWS if deep <= MOST_WITHIN else 0
+        while self.taken < len(lines):
+            words = lines[self.taken]
+            word = words[0]
+            if word in CLOSING_WORDS:
+                break
+            self.taken += 1
+            self.many_rows += 1
+            if self.many_rows > most:
+                self.refuse(1)
+            if word == "set":
+                found.append(self.read_set(words))
+            elif word == "tell":
+                found.append(("tell", self.name_behind(words)))
+            elif word == "if":
+                found.append(self.read_if(words, deep, rounds))
+            elif word == "round" and rounds < MOST_ROUNDS_WITHIN:
+                found.append(self.read_round(words, deep, rounds))
+            else:
+                self.refuse(1)
+        return tuple(found)
 
-    def read_row(self, deep, rounds):
-        line = self.take_line()
-        word = line.take_one_of(ROW_WORDS)
-        self.many_rows += 1
-        if word == "round":
-            rounds += 1
-        if self.many_rows > MOST_ROWS or deep > MOST_WITHIN or rounds > MOST_ROUNDS_WITHIN:
-            raise BadText(line.line, 1)
-        if word == "set":
-            return self.read_set(line)
-        if word == "tell":
-            return self.read_tell(line)
-        if word == "if":
-            return self.read_if(line, deep, rounds)
-        return self.read_round(line, deep, rounds)
+    def read_set(self, words):
+        kinds = EXPR_PARTS.get(words[2], ()) if len(words) > 2 else ()
+        if kinds and len(words) == len(kinds) + 3:
+            if kinds[-1] == "name":
+                if self.are_names(words):
+                    return ("set", words[1], tuple(words[2:]))
+            else:
+                number = self.number_of(words[-1], kinds[-1])
+                if number is not None and self.are_names(words[:-1]):
+                    return ("set", words[1], tuple(words[2:-1] + [number]))
+        self.refuse_first_wrong(words, ("name", "expr") + kinds)
 
-    def read_set(self, line):
-        name = line.take_name()
-        word = line.take_one_of(list(EXPR_PARTS))
-        parts = [self.read_part(line, kind) for kind in EXPR_PARTS[word]]
-        line.close()
-        return ("set", name, (word, *parts))
-
-    def read_part(self, line, kind):
-        if kind == "name":
-            return line.take_name()
-        most = (1 << self.wide) - 1 if kind == "word" else MOST_SHIFT
-        return line.take_number(0, most)
-
-    def read_tell(self, line):
-        name = line.take_name()
-        line.close()
-        return ("tell", name)
-
-    def read_if(self, line, deep, rounds):
-        name = line.take_name()
-        line.close()
+    def read_if(self, words, deep, rounds):
+        name = self.name_behind(words)
         first = self.read_rows(deep + 1, rounds)
         self.take_closing("else")
         second = self.read_rows(deep + 1, rounds)
         self.take_closing("end")
         return ("if", name, first, second)
 
-    def read_round(self, line, deep, rounds):
-        goings = line.take_number(0, MOST_GOINGS)
-        line.close()
-        rows = self.read_rows(deep + 1, rounds)
+    def read_round(self, words, deep, rounds):
+        goings = self.number_behind(words, "goings")
+        rows = self.read_rows(deep + 1, rounds + 1)
         self.take_closing("end")
         return ("round", goings, rows)
+
+    def take_line_of(self, word):
+        """The words of the next line, which begins with that word."""
+        if self.taken == len(self.lines):
+            raise BadText(len(self.all_lines) + 1, 1)
+        self.taken += 1
+        words = self.lines[self.taken - 1]
+        if words[0] != word:
+            self.refuse(1)
+        return words
+
+    def take_closing(self, word):
+        if len(self.take_line_of(word)) > 1:
+            self.refuse(2)
+
+    def name_behind(self, words):
+        """The NAME that stands alone behind the first word."""
+        if len(words) != 2 or not self.are_names(words):
+            self.refuse_first_wrong(words, ("name",))
+        return words[1]
+
+    def number_behind(self, words, kind):
+        """The number that stands alone behind the first word."""
+        number = self.number_of(words[1], kind) if len(words) == 2 else None
+        if number is None:
+            self.refuse_first_wrong(words, (kind,))
+        return number
+
+    def number_of(self, word, kind):
+        """The number that a word writes, None where it's none that can stand there."""
+        number = number_in(word)
+        least, most = self.bounds[kind]
+        return number if number is not None and least <= number <= most else None
+
+    def are_names(self, words):
+        """Whether all words of a line are NAMES, as its first word and that of an EXPR always are."""
+        known = self.names
+        for word in words:
+            if word not in known:
+                if not is_name(word):
+                    return False
+                known[word] = True
+        return True
+
+    def refuse_first_wrong(self, words, kinds):
+        """Refuses the first word that is not of its kind, one that lacks, or one too many."""
+        for at, kind in enumerate(kinds):
+            if at + 1 == len(words) or not self.fits(words[at + 1], kind):
+                self.refuse(at + 2)
+        self.refuse(len(kinds) + 2)
+
+    def fits(self, word, kind):
+        if kind == "name":
+            return is_name(word)
+        if kind == "expr":
+            return word in EXPR_PARTS
+        return self.number_of(word, kind) is not None
+
+    def refuse(self, word):
+        """Refuses that word of the line that was taken last."""
+        numbers = [at + 1 for at, words in enumerate(self.all_lines) if words]
+        raise BadText(numbers[self.taken - 1], word)

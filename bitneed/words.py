@@ -39,26 +39,24 @@ def are_names(things):
     return True
 
 
-def _are_figures(signs):
-    # Not isdigit: that holds of figures of other scripts, too.
-    return all("0" <= sign <= "9" for sign in signs)
-
-
 def number_in(word):
     """The whole number that a text writes, None where it writes none."""
     figures = word.removeprefix("-")
-    if not 1 <= len(figures) <= MOST_FIGURES or not _are_figures(figures):
+    if not 1 <= len(figures) <= MOST_FIGURES:
+        return None
+    # Both: there are figures of other scripts, too.
+    if not figures.isascii() or not figures.isdigit():
         return None
     if figures[0] == "0" and word != "0":
         return None
     return int(word)
 
 
-def _words_of(line):
-    # Split at blanks alone: split() would part words at other signs, too.
-    return [word for word in line.split(" ") if word]
-
-
 def rows_of(text):
     """The rows of a text, each a list of its words."""
-    return [_words_of(line) for line in text.split("\n")]
+    found = []
+    for line in text.split("\n"):
+        # Split at blanks alone: split() would part words at other signs, too.
+        words = line.split(" ") if line else []
+        found.append([word for word in words if word] if "" in words else words)
+    return found

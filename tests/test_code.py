@@ -15,7 +15,8 @@ from bitneed import (bits, desk, errors, forms, fronts, losing, needs, papers, p
 BUILTINS = {"len", "range", "enumerate", "zip", "min", "max", "sum", "abs", "sorted", "reversed",
             "int", "str", "bool", "list", "tuple", "dict", "set", "any", "all", "type", "ValueError"}
 METHODS = {"append", "extend", "get", "items", "join", "split", "update", "bit_length", "add",
-           "removeprefix", "isascii", "isalpha", "islower", "pop", "replace"}
+           "removeprefix", "isascii", "isalpha", "isdigit", "islower", "pop",
+           "replace"}
 BARRED = {"register", "mro", "elements", "open", "input", "law", "version_info", "with_traceback",
           "add_note", "eval", "exec", "exit", "id", "dir", "vars", "help", "globals", "locals"}
 BARRED_BEGINNINGS = ("_(wall|pe_|dcw_|enum_|cm_|twin_re_|lay_|law_|stub_|sre|WallAttr|cold|tuplegetter"
