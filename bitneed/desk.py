@@ -15,13 +15,11 @@ from bitneed.trying import apart_by_widths
 from bitneed.widths import widths
 from bitneed.words import number_in, rows_of
 
-ANY_MANY = -1
-
-# How many numbers stand behind the first word of each line.
+# How many numbers stand behind the first word of each line, None where any do.
 NUMBERS_BEHIND = {
     "program": 0,
-    "run": ANY_MANY,
-    "narrow": ANY_MANY,
+    "run": None,
+    "narrow": None,
     "facts": 1,
     "needs": 1,
     "behind": 1,
@@ -29,15 +27,19 @@ NUMBERS_BEHIND = {
     "loses": 0,
     "alone": 1,
     "together": 0,
-    "apart": ANY_MANY,
+    "apart": None,
     "plain": 0,
     "rule": 1,
     "back": 0,
 }
 
+# By these all that can be put in is run again and again, so their answers are
+# kept as long as the same program stands there.
+TRYING_WORDS = ("alone", "together")
+
 
 class Desk:
-    """A PROGRAM, and those that stood there ahead of each telling."""
+    """A PROGRAM, those that stood there ahead of each telling, and answers that took long."""
 
     def __init__(self, text):
         self.program = program_in(text)
@@ -74,9 +76,10 @@ class Desk:
             return self.put_up(rewritten(self.program, rule, numbers[0]))
         if word == "back":
             return self.go_back()
-        # While the same program stands there, it is asked for the same but once.
+        action = ANSWER_BY_WORD[word]
+        if word not in TRYING_WORDS:
+            return action(self.program, numbers)
         if asked not in self.answers:
-            action = ANSWER_BY_WORD[word]
             self.answers[asked] = action(self.program, numbers)
         return self.answers[asked]
 
@@ -114,7 +117,7 @@ def _asked_in(line):
             return None
         rule, *behind = behind
     numbers = tuple([number_in(part) for part in behind])
-    if None in numbers or NUMBERS_BEHIND[word] not in (ANY_MANY, len(numbers)):
+    if None in numbers or NUMBERS_BEHIND[word] not in (None, len(numbers)):
         return None
     return (word, rule, numbers)
 

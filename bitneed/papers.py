@@ -102,7 +102,6 @@ class NeedsTaken(Back):
         for name in needed:
             if needed[name] & ~taken.get(name, 0) != 0:
                 raise BadPaper("a bit that is needed isn't taken")
-        self.ahead[place] = taken
         return taken
 
     def ahead_of_round(self, place, rows, behind):

@@ -46,8 +46,9 @@ def _plain_row(placed, back):
         come_to = ways_of(back.wide, back.facts[place][row[1]])
         return _plain_if(row, [_plain_rows(way, back) for way in ways], come_to)
     if row[0] == "round":
+        # Nothing is left in a round of 0, as its rows aren't come to.
         within = _plain_rows(ways[0], back)
-        return (("round", row[1], within),) if row[1] > 0 and within else ()
+        return (("round", row[1], within),) if within else ()
     return (row,)
 
 

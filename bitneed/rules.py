@@ -1,8 +1,7 @@
 """RULES, by which programs are told otherwise at a place, and tell the same."""
 
 from bitneed.errors import BadAsked
-from bitneed.forms import (first_wrong, is_program, need_place, need_program, places_of, put_for,
-                           uses)
+from bitneed.forms import first_wrong, is_program, need_place, need_program, places_of, put_for
 from bitneed.placed import placed_rows, rows_from
 
 LETTERS = "abcdefghijklmnopqrstuvwxyz"
@@ -18,9 +17,8 @@ def rewritten(program, rule, place):
     placed, _ = placed_rows(program)
     action = ACTION_BY_RULE[rule]
     other = action(program, place, [row for _, row, _ in rows_from(placed, place)])
-    if other is None or not is_program(other) or first_wrong(other) is not None:
-        return None
-    return other
+    # Also None, which is no program, where the rule doesn't fit.
+    return other if is_program(other) and first_wrong(other) is None else None
 
 
 def same_but_names(one, other):
@@ -96,20 +94,17 @@ ACTION_BY_RULE = {
 
 def _word(at):
     """That one, from 0, of the words a, b, .., z, aa, ab, .."""
-    word = LETTERS[at % 26]
-    while at >= 26:
-        at = at // 26 - 1
-        word = LETTERS[at % 26] + word
-    return word
+    # No program has so many names that a third letter is wanted.
+    return LETTERS[at] if at < 26 else LETTERS[at // 26 - 1] + LETTERS[at % 26]
 
 
 def _names_in_order(program):
     """A list of the NAMES of a program, each once, as they stand first."""
+    # A name that is used is an INPUT, or stood in a set row ahead as what it sets.
     found = {name: True for name in program[1]}
     for row in places_of(program):
         if row[0] == "set":
             found[row[1]] = True
-        found.update({name: True for name in uses(row)})
     return list(found)
 
 

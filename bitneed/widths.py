@@ -1,7 +1,7 @@
 """WIDTHS: how many bits of each set row's word are needed at most."""
 
 from bitneed.bits import made_facts
-from bitneed.forms import need_program, places_of, set_places
+from bitneed.forms import places_of, set_places
 from bitneed.needs import gone_back
 
 
@@ -24,8 +24,8 @@ def widest(program):
 
 def spared(program):
     """How many bits the WIDTHS of all set rows leave out together."""
-    need_program(program)
-    return sum([program[0] - width for width in widths(program)])
+    told = widths(program)
+    return program[0] * len(told) - sum(told)
 
 
 def widths_by(wide, rows, facts, behind):

@@ -21,6 +21,7 @@ from bitneed.truly import alone, holds_truly, together
 from bitneed.trying import apart_by_widths, counting, put_in, told_apart
 from bitneed.widths import spared, widest, widths
 from tests.kit import ALL_EXPRS, copy, number, one_in_another
+from tests.test_often import calls_of
 
 LONGEST = 12000
 RULES = ["names", "more", "twin", "one", "turn", "choose", "into"]
@@ -223,6 +224,16 @@ class LongTrials(LongTest):
             self.assertIsNone(self.within(1, told_apart, program, made_plain(program)))
             self.assertIsNone(self.within(1, apart_by_widths, program, told))
             self.within(1, apart_by_widths, program, (0,) * 24)
+
+    def test_what_need_not_be_run_again_is_not(self):
+        # Of each row the width 0 is tried alone: so wide as its word ever is, it changes nothing.
+        there = names(24)
+        rows = tuple(number(name, 1) for name in there) + tuple(("tell", name) for name in there)
+        program = (8, ("a",), rows)
+        self.assertEqual(together(program), (1,) * 24)
+        one_going = calls_of(holds_truly, program, (8,) * 24) / 2
+        self.assertLess(calls_of(together, program), one_going * 28)
+        self.assertLess(calls_of(alone, program, 0), one_going * 3)
 
     def test_rows_that_are_told_by_some_alone(self):
         # Each tells as often as its word says, so none of them tells as often as another.

@@ -311,6 +311,11 @@ class NeedsOfRows(PapersTest):
             self.not_needs(self.PROGRAM, facts_paper(self.PROGRAM), told[:3] + ((("t", bits),),))
             self.not_needs(self.PROGRAM, facts_paper(self.PROGRAM), told[:3] + (
                 (("a", bits), ("t", 15)),))
+        # Of a right paper but for a bit that is none of a WORD.
+        program = (4, ("a", "b"), (TELL_A, TELL_A))
+        self.needs_right(program, "a 15, b 15", "a 15, b 15")
+        for wrong in ("a 31, b 15", "a 15, b 31", "a 15, b 16", "a 16, b 15", "a 17, b 15"):
+            self.needs_wrong(program, wrong, "a 15")
         for one in (("t",), (), ("t", 15, 0), ("t", (15,)), (("t", 15),)):
             self.not_needs(self.PROGRAM, facts_paper(self.PROGRAM), told[:3] + ((one,),))
 
@@ -418,6 +423,9 @@ class NeedsOfIfsAndRounds(PapersTest):
         self.needs_right(program, "a 1, b 3, c 3", "a 1, b 3, c 3", "a 3, c 3", "a 3")
         self.needs_wrong(program, "b 3", "b 3, c 3", "a 3, c 3", "a 3")
         self.needs_wrong(program, "b 3, c 3", "b 3, c 3", "a 1, c 3", "a 3")
+        # What is taken ahead of the round alone doesn't stand at the end of its ROWS.
+        self.needs_right(program, "a 2, b 3, c 3", "b 3, c 3", "a 3, c 3", "a 3")
+        self.needs_wrong(program, "a 2, b 3, c 3", "a 2, b 3, c 3", "a 1, c 3", "a 3")
 
     def test_a_round_without_rows_or_of_none(self):
         for rows in ((("round", 2, ()), TELL_A), (("round", 0, ()), TELL_A)):
