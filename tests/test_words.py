@@ -55,6 +55,11 @@ class Names(unittest.TestCase):
             for text in (sign, "a" + sign, sign + "a", "a" + sign + "a"):
                 self.assertIs(is_name(text), False, text)
 
+    def test_letters_of_other_scripts(self):
+        for letter in "\u00e4\u00df\u03b1\u0434\u00aa":
+            for text in (letter, "a" + letter, letter + "a"):
+                self.assertIs(is_name(text), False, text)
+
     def test_other_kinds_of_things(self):
         for thing in NO_NAMES:
             self.assertIs(is_name(thing), False)
@@ -68,6 +73,10 @@ class Numbers(unittest.TestCase):
     def test_what_comes_is_a_whole_number(self):
         self.assertIs(type(number_in("1")), int)
         self.assertIs(type(number_in("0")), int)
+
+    def test_figures_of_other_scripts(self):
+        for text in ("\u0661", "1\u0661", "\u0661\u0662", "\u00b2", "-\u0663", "\u0967"):
+            self.assertIsNone(number_in(text))
 
     def test_five_figures(self):
         for text in ("10000", "-10000", "99999", "12345", "00001"):
